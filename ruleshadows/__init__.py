@@ -1,0 +1,1 @@
+"""Rule books of two-letter rules, their shadows, and when both fit."""

@@ -1,0 +1,135 @@
+"""What the document says of all functions, function by function."""
+
+import copy
+import inspect
+import unittest
+
+import calls
+from ruleshadows import errors
+from ruleshadows.books import Rules
+
+
+def shape(value):
+    """A value with its kinds, so that a list is no tuple and True no number; a rule book by all it holds."""
+    if isinstance(value, Rules):
+        return ("Rules", [(name, shape(kept)) for name, kept in sorted(vars(value).items())])
+    if isinstance(value, (list, tuple)):
+        return (value.__class__.__name__, [shape(part) for part in value])
+    if isinstance(value, dict):
+        return ("dict", [(shape(key), shape(kept)) for key, kept in value.items()])
+    return (value.__class__.__name__, value)
+
+
+def turned(value, kind):
+    """All lists and tuples in a value as lists, or as tuples."""
+    if isinstance(value, (list, tuple)):
+        return kind([turned(part, kind) for part in value])
+    return value
+
+
+def spoil(value):
+    """Changes all lists and dicts in a value."""
+    if isinstance(value, (list, tuple)):
+        for part in value:
+            spoil(part)
+    if isinstance(value, list):
+        value.append("spoiled")
+    if isinstance(value, dict):
+        value.clear()
+
+
+def with_true(value):
+    """All ways to put True in the place of one number in a list."""
+    for at, part in enumerate(value):
+        ways = with_true(part) if isinstance(part, (list, tuple)) else [True]
+        for way in ways:
+            changed = list(value)
+            changed[at] = way
+            yield changed if isinstance(value, list) else tuple(changed)
+
+
+class Conventions(unittest.TestCase):
+    def refused(self, told, function, given):
+        name, value = told
+        with self.assertRaises(errors.RuleError, msg=(function.__name__, given)) as caught:
+            function(**given)
+        self.assertIs(caught.exception.__class__, getattr(errors, name), (function.__name__, given))
+        if name == "BadNumber":
+            self.assertEqual(caught.exception.part, value, (function.__name__, given))
+
+    def test_each_function_of_the_files_is_called_here(self):
+        called = [function.__name__ for function, _ in calls.CALLS]
+        self.assertEqual(len(called), len(set(called)))
+        for names in calls.INTERFACE.values():
+            for name in names:
+                self.assertIn(name, called)
+
+    def test_defined_in_their_files(self):
+        for file, names in calls.INTERFACE.items():
+            for name in names:
+                module = __import__("ruleshadows." + file, fromlist=[name])
+                self.assertEqual(getattr(module, name).__module__, "ruleshadows." + file)
+
+    def test_parameters_by_name_and_by_place(self):
+        for function, given in calls.CALLS:
+            self.assertEqual(list(inspect.signature(function).parameters), list(given), function.__name__)
+            self.assertEqual(shape(function(**given)), shape(function(*given.values())), function.__name__)
+
+    def test_lists_and_tuples_alike(self):
+        for function, given in calls.CALLS:
+            wanted = shape(function(**given))
+            for kind in (list, tuple):
+                other = {name: value if name in calls.TUPLES else turned(value, kind) for name, value in given.items()}
+                self.assertEqual(shape(function(**other)), wanted, (function.__name__, kind))
+
+    def test_nothing_handed_in_is_changed(self):
+        for function, given in calls.CALLS:
+            before = {name: shape(copy.deepcopy(value)) for name, value in given.items()}
+            function(**given)
+            self.assertEqual({name: shape(value) for name, value in given.items()}, before, function.__name__)
+
+    def test_equal_and_new_each_time(self):
+        for function, given in calls.CALLS:
+            found = function(**given)
+            wanted = shape(found)
+            spoil(found)
+            self.assertEqual(shape(function(**given)), wanted, function.__name__)
+            self.assertEqual(shape(function(**copy.deepcopy(given))), wanted, function.__name__)
+
+    def test_true_and_false_are_no_numbers(self):
+        for function, given in calls.CALLS:
+            for name, value in given.items():
+                if name in calls.ANY:
+                    continue
+                if isinstance(value, int):
+                    for wrong in (True, False):
+                        self.refused(calls.error_of(name), function, {**given, name: wrong})
+                if isinstance(value, (list, tuple)):
+                    for wrong in with_true(value):
+                        self.refused(calls.row_error_of(name), function, {**given, name: wrong})
+
+    def test_wrong_books_are_told_ahead_of_all_else(self):
+        for function, given in calls.CALLS:
+            for name, value in given.items():
+                if isinstance(value, Rules):
+                    for wrong in (None, True, 3, "book", [value], vars(value)):
+                        wrongs = {other: None if not isinstance(kept, Rules) else kept for other, kept in given.items()}
+                        with self.assertRaises(errors.BadBook, msg=function.__name__) as caught:
+                            function(**{**wrongs, name: wrong})
+                        self.assertIsNone(caught.exception.part)
+
+    def test_wrong_kinds_are_told_from_left_to_right(self):
+        for function, given in calls.CALLS:
+            names = [name for name in given if name not in calls.ANY]
+            for at, name in enumerate(names):
+                if isinstance(given[name], Rules):
+                    continue
+                wrongs = {**given, **{other: None for other in names[at:]}}
+                told = calls.error_of(name) if isinstance(given[name], int) else calls.row_error_of(name)
+                if (function.__name__, name) in calls.LATER:
+                    continue
+                self.refused(told, function, wrongs)
+
+
+if __name__ == "__main__":
+    unittest.main()
