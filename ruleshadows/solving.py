@@ -57,7 +57,7 @@ def mixed(prime, numbers, rows):
 
 def reduced(prime, pivots, row):
     """The row that differs from this one by one of the room and has 0 at all pivots."""
-    left = dict(row)
+    left = {at: row[at] for at in row}
     # No pivot row has anything at another pivot, so the numbers at pivots are told by the row as it was.
     for at, number in row.items():
         if at in pivots:

@@ -1,6 +1,8 @@
 """A right call of each function, with its parameters by name in their sequence, and what goes wrong with them."""
 
-from ruleshadows import books, ladders, places, rests, rooms, shadows, undoing, words
+from ruleshadows import (
+    bars, bases, books, cuts, ladders, lattices, leasts, orders, placerooms, places, relations, rests, rooms, settled,
+    shadows, sweeps, undoing, words)
 from samples import chance_book
 
 BOOK = books.exchange_book(3, 2)
@@ -59,10 +61,53 @@ FIRST = [
     made(undoing.counts_undo, book=BENT, most=4),
 ]
 
-CALLS = FIRST
+ROOMS = [[[1, 0], [0, 0]], [[0, 1]], [[1, 6]]]
+MINUS = books.minus_book(5, 2)
 
-TUPLES = ("word",)
-ROW_ERRORS = {"table": ("BadTable", None), "weights": ("BadTable", None), "places": ("BadNumber", "place")}
+SECOND = [
+    made(leasts.least_ladder, book=BENT, most=4, side=0),
+    made(relations.relation_numbers, book=BENT, most=4, side=0),
+    made(relations.first_gap, book=BENT, most=5),
+    made(relations.relations_straight, book=BENT, most=5),
+    made(cuts.cut_words, book=BENT, length=3, parts=2),
+    made(cuts.cut_rows, book=BENT, length=3, parts=2),
+    made(cuts.cut_numbers, book=BENT, length=3),
+    made(lattices.all_sum, prime=5, size=2, rooms=ROOMS),
+    made(lattices.all_common, prime=5, size=2, rooms=ROOMS[:1]),
+    made(lattices.closed_rooms, prime=5, size=2, rooms=ROOMS, most=10),
+    made(bases.is_fitting, prime=5, size=2, rooms=ROOMS[:2], thing=[[0, 3], [1, 0]]),
+    made(bases.fitting_basis, prime=5, size=2, rooms=ROOMS[1:]),
+    made(bases.lot_numbers, prime=5, size=2, rooms=ROOMS),
+    made(bars.gap, prime=5, size=2, rooms=ROOMS, at=1),
+    made(bars.bar, prime=5, size=2, rooms=ROOMS),
+    made(bars.is_bar, prime=5, size=2, rooms=ROOMS, thing=((0, 1, 2), 1)),
+    made(bars.counted_size, prime=5, size=2, rooms=ROOMS),
+    made(placerooms.place_rooms, book=BENT, length=3),
+    made(placerooms.fitting_at, book=BENT, length=3),
+    made(placerooms.gaps, book=BENT, length=4),
+    made(placerooms.first_barred, book=BENT, most=5),
+    made(orders.is_order, letters=2, order=[1, 0]),
+    made(orders.head_of, book=BENT, order=[1, 0], length=2, row=[1, 5, 6, 0]),
+    made(orders.heads, book=BENT, order=[1, 0]),
+    made(orders.head_rules, book=BENT, order=[1, 0]),
+    made(orders.plain_words, book=BENT, order=[1, 0], length=3),
+    made(orders.head_words, book=BENT, order=[1, 0], length=3),
+    made(orders.word_book, prime=5, letters=2, some=[(0, 1), (1, 1)]),
+    made(settled.is_tidy, book=BENT, order=[1, 0]),
+    made(settled.overlaps, book=MINUS, order=[1, 0]),
+    made(settled.overlap_row, book=MINUS, order=[1, 0], word=(1, 1, 1)),
+    made(settled.is_settled, book=MINUS, order=[1, 0], word=(1, 1, 0)),
+    made(settled.unsettled, book=BENT, order=[1, 0], length=3),
+    made(sweeps.replaced, book=MINUS, order=[1, 0], word=(1, 1, 0), place=1, row=[1, 2, 3, 4, 5, 6, 7, 8]),
+    made(sweeps.swept, book=MINUS, order=[1, 0], length=2, row=[1, 2, 3, 9]),
+]
+
+CALLS = FIRST + SECOND
+
+# Parameters that hold tuples that may not be lists.
+TUPLES = ("word", "some", "thing")
+ROW_ERRORS = {"table": ("BadTable", None), "weights": ("BadTable", None), "places": ("BadNumber", "place"),
+              "order": ("BadOrder", None)}
 
 
 def error_of(name):
@@ -74,11 +119,11 @@ def error_of(name):
 
 def row_error_of(name):
     """The same for a list or tuple with True in it."""
-    return ROW_ERRORS.get(name, ("BadWord", None) if name in TUPLES else ("BadRow", None))
+    return ROW_ERRORS.get(name, ("BadWord", None) if name in ("word", "some") else ("BadRow", None))
 
 
-# Parameters that take any value, to be judged.
-ANY = ()
+# Functions with a parameter that takes any value, to be judged.
+ANY = (("is_fitting", "thing"), ("is_bar", "thing"), ("is_order", "order"))
 # Where the document asks for another sequence than from left to right.
 LATER = (("rest_product", "one"),)
 
@@ -92,4 +137,14 @@ INTERFACE = {
     "places": ("at_place", "at_places", "common_at", "common_room", "pairing"),
     "ladders": ("rung_size", "letters_off", "step_rows", "lost", "first_lost", "fits"),
     "undoing": ("back_counts", "counts_undo"),
+    "leasts": ("least_ladder",),
+    "relations": ("relation_numbers", "first_gap", "relations_straight"),
+    "cuts": ("cut_words", "cut_rows", "cut_numbers"),
+    "lattices": ("all_sum", "all_common", "closed_rooms"),
+    "bases": ("is_fitting", "fitting_basis", "lot_numbers"),
+    "bars": ("gap", "bar", "is_bar", "counted_size"),
+    "placerooms": ("place_rooms", "fitting_at", "gaps", "first_barred"),
+    "orders": ("is_order", "head_of", "heads", "head_rules", "plain_words", "head_words", "word_book"),
+    "settled": ("is_tidy", "overlaps", "overlap_row", "is_settled", "unsettled"),
+    "sweeps": ("replaced", "swept"),
 }

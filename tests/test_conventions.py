@@ -99,7 +99,7 @@ class Conventions(unittest.TestCase):
     def test_true_and_false_are_no_numbers(self):
         for function, given in calls.CALLS:
             for name, value in given.items():
-                if name in calls.ANY:
+                if (function.__name__, name) in calls.ANY:
                     continue
                 if isinstance(value, int):
                     for wrong in (True, False):
@@ -120,7 +120,7 @@ class Conventions(unittest.TestCase):
 
     def test_wrong_kinds_are_told_from_left_to_right(self):
         for function, given in calls.CALLS:
-            names = [name for name in given if name not in calls.ANY]
+            names = [name for name in given if (function.__name__, name) not in calls.ANY]
             for at, name in enumerate(names):
                 if isinstance(given[name], Rules):
                     continue
