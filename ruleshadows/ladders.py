@@ -85,8 +85,8 @@ def lost(book, length, side):
     return tuple(lost_steps(RestStock(book), CommonStock(book), length, side))
 
 
-def first_lost(book, most):
-    """The first pair of a length up to most and a step at which something is lost; None."""
+def first_losses(book, most):
+    """The least length up to most that loses something, with the list of what is lost step by step; None."""
     check_book(book)
     check_from(most, 0, "most")
     words_many(book.letters, most)
@@ -95,12 +95,21 @@ def first_lost(book, most):
         return None
     rests, commons = RestStock(book), CommonStock(book)
     for length in range(FIRST_LOSING, most + 1):
-        for step, number in enumerate(lost_steps(rests, commons, length, 0)):
-            if number:
-                return (length, step)
+        numbers = lost_steps(rests, commons, length, 0)
+        if any(numbers):
+            return (length, numbers)
     return None
+
+
+def first_lost(book, most):
+    """The first pair of a length up to most and a step at which something is lost; None."""
+    found = first_losses(book, most)
+    if found is None:
+        return None
+    length, numbers = found
+    return (length, [step for step in range(length + 1) if numbers[step]][0])
 
 
 def fits(book, most):
     """Whether nothing is lost in any length up to most."""
-    return first_lost(book, most) is None
+    return first_losses(book, most) is None

@@ -1,10 +1,10 @@
 """The rooms of the places of a rule book, and whether one basis fits them all."""
 
 from ruleshadows.books import check_book
-from ruleshadows.checks import check_from, length_many, words_many
+from ruleshadows.checks import length_many
 from ruleshadows.commonstock import CommonStock
 from ruleshadows.fitting import split_rooms
-from ruleshadows.ladders import FIRST_LOSING, lost_steps
+from ruleshadows.ladders import first_losses, lost_steps
 from ruleshadows.lattices import check_few
 from ruleshadows.places import place_rows
 from ruleshadows.reststock import RestStock
@@ -37,29 +37,22 @@ def gaps(book, length):
     """The gaps of the rooms of all places, place by place."""
     check_book(book)
     length_many(book.letters, length)
-    return tuple(_gaps(RestStock(book), CommonStock(book), length))
+    return tuple(_gaps(length, lost_steps(RestStock(book), CommonStock(book), length, 0)))
 
 
-def _gaps(rests, commons, length):
+def _gaps(length, losses):
     """The gap at a place is what the ladder loses at the step length - 1 - place.
 
     The three rooms of a gap are those of the ladder at this step, and the ladder's rungs are far smaller.
     """
-    lost_there = lost_steps(rests, commons, length, 0)
-    return [lost_there[length - 1 - place] for place in range(length - 1)]
+    return [losses[length - 1 - place] for place in range(length - 1)]
 
 
 def first_barred(book, most):
     """The first pair of a length up to most and a place with a gap; None without one."""
-    check_book(book)
-    check_from(most, 0, "most")
-    words_many(book.letters, most)
-    # A book of one letter fits, however long: its lengths have no bound to stop at.
-    if book.letters == 1:
+    found = first_losses(book, most)
+    if found is None:
         return None
-    rests, commons = RestStock(book), CommonStock(book)
-    for length in range(FIRST_LOSING, most + 1):
-        for place, number in enumerate(_gaps(rests, commons, length)):
-            if number:
-                return (length, place)
-    return None
+    length, losses = found
+    there = _gaps(length, losses)
+    return (length, [place for place in range(length - 1) if there[place]][0])

@@ -58,8 +58,8 @@ def three_of_all_sorts(crossed):
 
 def samples():
     """(prime, size, rooms): without and with fitting bases."""
-    found = [(3, 2, THREE), (2, 2, THREE), (2, 6, four(2)), (3, 6, four(3)), (5, 2, []), (5, 0, [[], [()]]), (3, 2, [[]]),
-             (3, 3, [[(1, 0, 0)], [(1, 0, 0)], [(1, 0, 0), (0, 0, 1)]]), (7, 1, [[(3,)], [(0,)], [(1,)]])]
+    found = [(3, 2, THREE), (2, 2, THREE), (2, 6, four(2)), (3, 6, four(3)), (5, 2, []), (5, 0, [[], [()]]),
+             (3, 2, [[]]), (3, 3, [[(1, 0, 0)], [(1, 0, 0)], [(1, 0, 0), (0, 0, 1)]]), (7, 1, [[(3,)], [(0,)], [(1,)]])]
     for seed in range(16):
         prime = (2, 3, 5, 97)[seed % 4]
         found.append((prime, 3 + seed % 3, fitted(prime, 3 + seed % 3, 1 + seed % 5, seed)[0]))

@@ -63,6 +63,14 @@ def bent_book(prime):
     return told_book(prime, 2, [{(0, 0): 1}, {(1, 0): 1, (1, 1): -1}])
 
 
+def sided_books():
+    """Books that lose other numbers on the one side than on the other one, in length 5."""
+    return [
+        told_book(2, 3, [{(0, 0): 1}, {(1, 0): 1, (1, 1): 1}, {(2, 1): 1}, {(2, 2): 1}]),
+        told_book(3, 3, [{(0, 0): 1, (1, 0): 2}, {(1, 1): 1}, {(1, 2): 1, (2, 0): 2}, {(2, 2): 1}]),
+    ]
+
+
 def named_books(prime, letters):
     """Books with names, all of which fit."""
     weights = [[(a + b) % 2 if a == b else 1 + (a + 2 * b) % (prime - 1) if prime > 2 else 1
@@ -74,9 +82,9 @@ def named_books(prime, letters):
 
 
 def small_books():
-    """Some books of one to three letters over several primes, from few rules and from many."""
+    """Some books of one to four letters over several primes, from few rules and from many."""
     found = []
-    for prime, letters in ((2, 1), (5, 1), (2, 2), (3, 2), (97, 2), (2, 3), (3, 3), (7, 3)):
+    for prime, letters in ((2, 1), (5, 1), (2, 2), (3, 2), (97, 2), (2, 3), (3, 3), (7, 3), (2, 4), (5, 4)):
         found += named_books(prime, letters)
         for seed, many in enumerate((1, 2, letters * letters // 2, letters * letters - 1)):
             found.append(chance_book(prime, letters, many, 31 * prime + letters + seed))

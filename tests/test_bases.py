@@ -92,7 +92,8 @@ class Bases(Asks, unittest.TestCase):
                 self.assertIs(is_fitting(prime, size, dark, told), True)
                 table = chance_table(prime, size, 5)
                 led = [[plain.summed(prime, table, row, size) for row in room] for room in rooms]
-                self.assertIs(is_fitting(prime, size, led, [plain.summed(prime, table, row, size) for row in basis]), True)
+                told = [plain.summed(prime, table, row, size) for row in basis]
+                self.assertIs(is_fitting(prime, size, led, told), True)
 
     def test_examples_by_hand(self):
         for prime in (2, 3, 97):

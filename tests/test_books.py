@@ -99,7 +99,8 @@ class Books(Asks, unittest.TestCase):
             self.refuses("BadTable", book_led, exchange_book(3, 2), wrong)
 
     def test_read_back(self):
-        self.assertEqual(read_back(told_book(5, 2, [{(0, 1): 1, (1, 1): 3}])), told_book(5, 2, [{(1, 0): 1, (1, 1): 3}]))
+        book = told_book(5, 2, [{(0, 1): 1, (1, 1): 3}])
+        self.assertEqual(read_back(book), told_book(5, 2, [{(1, 0): 1, (1, 1): 3}]))
         for book in few_books():
             self.assertEqual(read_back(read_back(book)), book)
         self.assertNotEqual(read_back(chance_book(5, 3, 2, 1)), chance_book(5, 3, 2, 1))

@@ -115,7 +115,15 @@ class Cuts(Asks, unittest.TestCase):
                     self.assertEqual(len(cut_words(book, length, parts)), many)
                 if parts and max(many, fewer) > 1000:
                     self.refuses(MANY, cut_rows, book, length, parts)
+        self.refuses(MANY, cut_words, exchange_book(3, 2), 10, 1)
+        self.refuses(MANY, cut_rows, exchange_book(3, 2), 10, 1)
+        self.refuses(MANY, cut_words, exchange_book(3, 2), 10, 100)
         self.refuses(MANY, cut_numbers, book, 7)
+        self.refuses(MANY, cut_numbers, free_book(3, 9), 3)
+        self.assertEqual(cut_numbers(exchange_book(3, 9), 3), (0, 0, 0, 84))
+        # Just 1000 are not too many.
+        self.assertEqual(len(cut_words(free_book(3, 1), 1001, 2)), 1000)
+        self.refuses(MANY, cut_words, free_book(3, 1), 1002, 2)
         self.assertEqual(cut_numbers(book, 5), (0,) * 6)
         self.refuses(MANY, cut_words, free_book(3, 1), 14, 7)
         with self.assertRaises(TooMany):

@@ -3,8 +3,8 @@ import unittest
 from ruleshadows import errors
 from ruleshadows.errors import RuleError
 
-PLAIN = ("BadCells", "BadDeed", "BadLive", "BadLower", "BadMap", "BadName", "BadOrder", "BadPrime", "BadRow", "BadStart",
-         "BadTable", "BadWeb", "BadWord", "NotAlike", "NotFull", "NotTidy", "NothingLeft")
+PLAIN = ("BadCells", "BadDeed", "BadLive", "BadLower", "BadMap", "BadName", "BadOrder", "BadPrime", "BadRow",
+         "BadStart", "BadTable", "BadWeb", "BadWord", "NotAlike", "NotFull", "NotTidy", "NothingLeft")
 TELLING = (("BadBook", "part"), ("BadNumber", "part"), ("BadText", "at"), ("NoMark", "name"), ("NoWatch", "name"),
            ("TooMany", "most"))
 

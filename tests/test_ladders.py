@@ -9,7 +9,8 @@ from ruleshadows.places import at_place, at_places, common_at, common_room
 from ruleshadows.rests import count, nothing_room, rest_words
 from ruleshadows.shadows import shadow
 from samples import (
-    bent_book, chance_book, chance_table, few_books, heart_book, longest, named_books, small_books, told, told_book)
+    bent_book, chance_book, chance_table, few_books, heart_book, longest, named_books, sided_books, small_books,
+    told, told_book)
 
 
 def all_two_letter_books(prime, many):
@@ -175,8 +176,10 @@ class Losing(unittest.TestCase):
                     self.assertEqual(sum((-1) ** k * x for k, x in enumerate(numbers)), signed, told(book))
 
     def test_heart_three_rooms(self):
-        for book in few_books() + [bent_book(3), chance_book(2, 2, 2, 12)]:
+        for book in few_books() + [bent_book(3), chance_book(2, 2, 2, 12)] + sided_books()[:1]:
             length, prime = longest(book), book.prime
+            if book in sided_books():
+                length = 5
             for i in range(2, length - 1):
                 q = length - 1 - i
                 ahead = at_places(book, length, list(range(q)))
@@ -186,6 +189,26 @@ class Losing(unittest.TestCase):
                 both = plain.common(prime, ahead + here, behind, size)
                 apart = plain.common(prime, ahead, behind, size) + plain.common(prime, here, behind, size)
                 self.assertEqual(lost(book, length, 0)[i], len(both) - plain.rank(prime, apart), told(book))
+
+    def test_facts_of_four_letters_in_length_4(self):
+        for seed, many in enumerate((2, 4, 6, 7, 8, 9, 10, 12, 14)):
+            book = chance_book((2, 3, 5)[seed % 3], 4, many, seed, thin=1 + seed % 2)
+            dark, numbers = shadow(book), lost(book, 4, 0)
+            self.assertEqual((numbers[:2], numbers[3:]), ((0, 0), (0, 0)), told(book))
+            self.assertEqual(lost(book, 4, 1), numbers, told(book))
+            self.assertEqual((lost(dark, 4, 0), lost(dark, 4, 1)), (numbers, numbers), told(book))
+            self.assertEqual(first_lost(book, 4), (4, 2) if numbers[2] else None, told(book))
+            signed = sum((-1) ** k * count(book, 4 - k) * count(dark, k) for k in range(5))
+            self.assertEqual(numbers[2], signed, told(book))
+
+    def test_sides_that_lose_other_numbers(self):
+        known = [((0, 0, 1, 0, 0, 0), (0, 0, 2, 1, 0, 0)), ((0, 0, 7, 1, 0, 0), (0, 0, 8, 2, 0, 0))]
+        for book, (one, other) in zip(sided_books(), known):
+            dark, back = shadow(book), read_back(book)
+            self.assertEqual((lost(book, 5, 0), lost(book, 5, 1)), (one, other))
+            self.assertEqual((lost(dark, 5, 0), lost(dark, 5, 1)), (other[::-1], one[::-1]))
+            self.assertEqual((lost(back, 5, 0), lost(back, 5, 1)), (other, one))
+            self.assertEqual(lost(book, 4, 0), lost(book, 4, 1))
 
     def test_first_lost_by_its_own_words(self):
         for book in small_books():

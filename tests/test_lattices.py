@@ -7,7 +7,8 @@ from roomsamples import THREE, chance_rooms, fitted, four, samples, three_of_all
 from ruleshadows.lattices import all_common, all_sum, closed_rooms
 from ruleshadows.errors import TooMany
 
-WRONG_ROOMS = (None, 0, "ab", [1], [[1, 2]], [[[1, 2, 3]]], [[[1, 0]], None], [[[1, True]]], {0: []}, [[(1, 0)], [(1,)]])
+WRONG_ROOMS = (None, 0, "ab", [1], [[1, 2]], [[[1, 2, 3]]], [[[1, 0]], None], [[[1, True]]], {0: []},
+               [[(1, 0)], [(1,)]])
 
 
 def all_closed(prime, size, rooms):

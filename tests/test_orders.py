@@ -142,8 +142,8 @@ class Orders(Asks, unittest.TestCase):
             self.refuses("BadPrime", word_book, wrong, 0, None)
         for wrong in NUMBERS_NOT + (0, 10):
             self.refuses(number("letters"), word_book, 3, wrong, None)
-        for wrong in (None, 0, "01", [0, 1], (0, 1), [[0, 1]], [(0, 2)], [(0,)], [(0, 1, 1)], [(0, True)], [(0, 1), None],
-                      [()], [(0, -1)], {(0, 1): 1}):
+        for wrong in (None, 0, "01", [0, 1], (0, 1), [[0, 1]], [(0, 2)], [(0,)], [(0, 1, 1)], [(0, True)],
+                      [(0, 1), None], [()], [(0, -1)], {(0, 1): 1}):
             self.refuses("BadWord", word_book, 3, 2, wrong)
 
     def test_wrong_inputs_in_sequence(self):

@@ -10,7 +10,8 @@ from ruleshadows.places import at_place
 from ruleshadows.rooms import room_dark
 from ruleshadows.shadows import shadow
 from samples import (
-    bent_book, chance_book, chance_table, few_books, heart_book, longest, named_books, small_books, told, told_book)
+    bent_book, chance_book, chance_table, few_books, heart_book, longest, named_books, sided_books, small_books,
+    told, told_book)
 from test_bars import plain_gap
 from test_bases import is_basis_of
 
@@ -36,6 +37,12 @@ class PlaceRooms(Asks, unittest.TestCase):
                 if length < 5:
                     plainly = tuple(plain_gap(book.prime, size, rooms, at) for at in range(length - 1))
                     self.assertEqual(found, plainly, told(book))
+
+    def test_gaps_are_those_of_side_0(self):
+        for book, known in zip(sided_books(), [(0, 0, 1, 0), (0, 1, 7, 0)]):
+            rooms = place_rooms(book, 5)
+            self.assertEqual(tuple(gap(book.prime, 243, rooms, at) for at in range(4)), known)
+            self.assertEqual(gaps(book, 5), known)
 
     def test_heart_gaps_are_what_the_ladder_loses(self):
         for book in small_books():

@@ -42,7 +42,8 @@ class Relations(Asks, unittest.TestCase):
                 self.assertFalse(any(numbers[step][:step]))
             back = back_counts(book, most)
             for n in range(most + 1):
-                total = sum((-1) ** s * numbers[s][k] * count(book, n - k) for s in range(most + 1) for k in range(n + 1))
+                total = sum((-1) ** s * numbers[s][k] * count(book, n - k)
+                            for s in range(most + 1) for k in range(n + 1))
                 self.assertEqual(total, int(n == 0), told(book))
                 self.assertEqual(back[n], (-1) ** n * sum((-1) ** s * numbers[s][n] for s in range(most + 1)))
 
@@ -88,7 +89,8 @@ class Relations(Asks, unittest.TestCase):
         for book in (exchange_book(5, 2), minus_book(5, 2), free_book(2, 2), shut_book(2, 2)):
             self.assertIs(relations_straight(book, 9), True)
         self.assertIs(relations_straight(shut_book(2, 1), 10 ** 9), True)
-        self.assertEqual(relation_numbers(exchange_book(2, 3), 3, 0), ((1, 0, 0, 0), (0, 3, 0, 0), (0, 0, 3, 0), (0, 0, 0, 1)))
+        self.assertEqual(relation_numbers(exchange_book(2, 3), 3, 0), (
+            (1, 0, 0, 0), (0, 3, 0, 0), (0, 0, 3, 0), (0, 0, 0, 1)))
         self.assertEqual(relation_numbers(exchange_book(2, 3), 0, 0), ((1,),))
 
     def test_wrong_inputs_in_sequence(self):

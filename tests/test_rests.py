@@ -85,12 +85,14 @@ class Rests(Asks, unittest.TestCase):
                     rows = []
                     for word in rest_words(book, length):
                         row = plain.unit(size, plain.spot(book.letters, word))
-                        ways = [(letter, row) if side == 0 else (row, letter) for letter in plain.identity(book.letters)]
+                        letters = plain.identity(book.letters)
+                        ways = [(letter, row) if side == 0 else (row, letter) for letter in letters]
                         rows.append((row, [x for one, other in ways for x in plain.left(
                             book.prime, longer, words_beside(book, one, other))]))
                     told_zero = plain.dark(book.prime, plain.transposed([way for _, way in rows]), len(rows))
                     sums = [plain.summed(book.prime, [row for row, _ in rows], row, size) for row in told_zero]
-                    self.assertEqual(idle(book, length, side), plain.gauss(book.prime, sums), (told(book), length, side))
+                    found = idle(book, length, side)
+                    self.assertEqual(found, plain.gauss(book.prime, sums), (told(book), length, side))
 
     def test_idle_examples(self):
         self.assertEqual(idle(minus_book(3, 2), 2, 0), [(0, 0, 1, 0)])
@@ -144,6 +146,7 @@ class Rests(Asks, unittest.TestCase):
         for wrong in (None, [1, 2, 3], [1, 2, 3, True], [1] * 5, "abcd"):
             self.refuses("BadRow", rest, book, 2, wrong)
             self.refuses("BadRow", rest_product, book, 2, wrong, 1, None)
+            self.refuses("BadRow", rest_product, book, 2, wrong, 1, [1, 0])
             self.refuses("BadRow", rest_product, book, 1, [1, 0], 2, wrong)
         self.assertEqual(rest(book, 9, [0] * 512), (0,) * 512)
 

@@ -93,6 +93,7 @@ class Rooms(Asks, unittest.TestCase):
             for wrong in (None, 1, "ab", [1, 2], [[1, 2, 3]], [[1]], [[1, 0], [True, 0]], [[1, 0], None], {1: 2}, [[]]):
                 self.refuses("BadRow", function, 3, 2, wrong, *last[1:])
                 if function in two_rooms:
+                    self.refuses("BadRow", function, 3, 2, wrong, [[1, 0]])
                     self.refuses("BadRow", function, 3, 2, [[1, 0]], wrong)
 
 

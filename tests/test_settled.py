@@ -2,7 +2,7 @@ import unittest
 
 import plain
 from asking import MANY, NUMBERS_NOT, Asks, number
-from ruleshadows.books import exchange_book, free_book, minus_book, shut_book
+from ruleshadows.books import Rules, exchange_book, free_book, minus_book, shut_book
 from ruleshadows.orders import head_rules, head_words, heads, plain_words, word_book
 from ruleshadows.rests import count
 from ruleshadows.settled import is_settled, is_tidy, overlap_row, overlaps, unsettled
@@ -59,6 +59,21 @@ class Settled(Asks, unittest.TestCase):
         self.assertIs(is_tidy(book, [0, 1]), False)
         self.assertEqual(unsettled(book, [0, 1], 3), [(0, 0, 0, 1, 0, 0, 2, 0)])
 
+    def test_only_what_the_word_is_ahead_of_settles(self):
+        # All rows of head rules with a letter, but those whose head is the word itself, would make up for these.
+        for prime, rules, order, word in (
+                (3, ((1, 0, 0, 0, 0, 2, 1, 0, 1), (0, 1, 0, 0, 0, 0, 0, 0, 0), (0, 0, 1, 0, 1, 0, 0, 0, 0),
+                     (0, 0, 0, 1, 0, 0, 0, 0, 0), (0, 0, 0, 0, 0, 0, 0, 1, 2)), [0, 2, 1], (0, 0, 2)),
+                (2, ((1, 0, 0, 1, 0, 0, 0, 0, 0), (0, 1, 0, 0, 0, 1, 0, 0, 0), (0, 0, 1, 0, 0, 0, 0, 0, 0),
+                     (0, 0, 0, 0, 1, 0, 0, 0, 0), (0, 0, 0, 0, 0, 0, 1, 1, 0)), [0, 2, 1], (0, 1, 1)),
+                (3, ((1, 0, 0, 0, 0, 0, 0, 0, 0), (0, 1, 0, 0, 0, 0, 0, 0, 0), (0, 0, 1, 0, 0, 0, 0, 0, 2),
+                     (0, 0, 0, 1, 0, 0, 0, 0, 0), (0, 0, 0, 0, 1, 0, 0, 0, 0), (0, 0, 0, 0, 0, 1, 0, 0, 0),
+                     (0, 0, 0, 0, 0, 0, 1, 0, 0), (0, 0, 0, 0, 0, 0, 0, 1, 1)), [0, 1, 2], (2, 1, 2))):
+            book = Rules(prime, 3, rules)
+            self.assertIs(is_settled(book, order, word), False)
+            for word in overlaps(book, order):
+                self.assertIs(is_settled(book, order, word), plain_settled(book, order, word))
+
     def test_known_tidy_books(self):
         for prime in (2, 3, 97):
             for letters in (1, 2, 3, 4):
@@ -111,8 +126,8 @@ class Settled(Asks, unittest.TestCase):
         wrong_orders(self, unsettled, book, -1)
         self.assertEqual(overlaps(book, [0, 1]), [(0, 0, 0), (0, 0, 1), (0, 1, 1), (1, 1, 1)])
         for function in (overlap_row, is_settled):
-            for wrong in (None, 0, "001", (), (0, 0), [0, 0, 1], (1, 0, 0), (0, 1, 0), (0, 0, True), (False, 0, 1), (0, 0, 2),
-                          (0, 0, 1, 1), (0.0, 0, 1), ((0,), 0, 1), {(0, 0, 1)}):
+            for wrong in (None, 0, "001", (), (0, 0), [0, 0, 1], (1, 0, 0), (0, 1, 0), (0, 0, True), (False, 0, 1),
+                          (0, 0, 2), (0, 0, 1, 1), (0.0, 0, 1), ((0,), 0, 1), {(0, 0, 1)}):
                 self.refuses("BadWord", function, book, [0, 1], wrong)
         for wrong in NUMBERS_NOT + (-1,):
             self.refuses(number("length"), unsettled, book, [0, 1], wrong)

@@ -23,7 +23,8 @@ class Shadows(Asks, unittest.TestCase):
                 self.assertEqual(shadow(shut_book(prime, letters)), free_book(prime, letters))
                 self.assertEqual(shadow(exchange_book(prime, letters)), minus_book(prime, letters))
                 self.assertEqual(shadow(minus_book(prime, letters)), exchange_book(prime, letters))
-        self.assertEqual(shadow(weighed_book(5, [[0, 0], [2, 1]])), told_book(5, 2, [{(0, 0): 1}, {(0, 1): 1, (1, 0): 2}]))
+        book = weighed_book(5, [[0, 0], [2, 1]])
+        self.assertEqual(shadow(book), told_book(5, 2, [{(0, 0): 1}, {(0, 1): 1, (1, 0): 2}]))
 
     def test_led_and_read_back(self):
         for book in small_books():
