@@ -1,8 +1,9 @@
 """A right call of each function, with its parameters by name in their sequence, and what goes wrong with them."""
 
 from ruleshadows import (
-    bars, bases, books, cuts, ladders, lattices, leasts, orders, placerooms, places, relations, rests, rooms, settled,
-    shadows, sweeps, undoing, words)
+    bars, bases, books, cuts, follows, growths, ladders, lattices, leasts, orders, placerooms, places, products,
+    relations, rests, rooms, series, settled, shadows, sides, sweeps, trials, twists, undoing, weblots, webs, wordrooms,
+    words)
 from samples import chance_book
 
 BOOK = books.exchange_book(3, 2)
@@ -102,12 +103,49 @@ SECOND = [
     made(sweeps.swept, book=MINUS, order=[1, 0], length=2, row=[1, 2, 3, 9]),
 ]
 
-CALLS = FIRST + SECOND
+LINES = [[0, 1, 3], [1, 2, 6]]
+TURN = [[0, 1], [1, 0]]
+
+THIRD = [
+    made(wordrooms.is_word_basis, book=MINUS, order=[1, 0], length=1, some=[[1, 0], [3, 6]]),
+    made(wordrooms.word_basis, book=MINUS, order=[1, 0], length=3),
+    made(follows.follows, book=BENT, order=[1, 0]),
+    made(follows.count_long, book=BOOK, order=[1, 0], length=7),
+    made(follows.count_far, book=BOOK, order=[1, 0], length=10 ** 20, modulo=97),
+    made(series.unrolled, over=[2, 1], below=[1, -1, -1], most=5),
+    made(series.fraction, book=BOOK, order=[1, 0]),
+    made(growths.growth, book=BOOK, order=[1, 0]),
+    made(trials.tidy_orders, book=BOOK),
+    made(trials.first_tidy, book=BOOK),
+    made(webs.web_book, prime=5, letters=3, lines=LINES, nothings=[2, 0]),
+    made(webs.shut_web, prime=5, letters=3, lines=LINES, nothings=[2, 0]),
+    made(webs.web_lots, letters=3, lines=LINES),
+    made(weblots.web_fraction, letters=3, lines=LINES, nothings=[2, 0]),
+    made(weblots.shut_fraction, letters=3, lines=LINES, nothings=[2, 0]),
+    made(weblots.is_straight, letters=3, lines=LINES, order=[1, 0, 2]),
+    made(weblots.first_straight, letters=3, lines=LINES),
+    made(sides.free_sides, one=BENT, other=MINUS),
+    made(sides.shut_sides, one=BENT, other=MINUS),
+    made(sides.ahead_sides, one=BENT, other=MINUS),
+    made(sides.behind_sides, one=BENT, other=MINUS),
+    made(sides.weighed_sides, one=BENT, other=MINUS, weight=7),
+    made(sides.sides_told, book=books.exchange_book(5, 3), many=1),
+    made(products.woven, one=BENT, other=MINUS, row=[1, 2, 9, 0], second=[0, 1, 0, -1]),
+    made(products.white_product, one=BENT, other=MINUS),
+    made(products.black_product, one=BENT, other=MINUS),
+    made(products.spaced_book, book=BOOK, step=2),
+    made(twists.keeps, book=MINUS, thing=TURN),
+    made(twists.turned_book, book=MINUS, table=TURN),
+    made(twists.passed_book, book=MINUS, table=TURN),
+]
+
+CALLS = FIRST + SECOND + THIRD
 
 # Parameters that hold tuples that may not be lists.
-TUPLES = ("word", "some", "thing")
+TUPLES = (("spot_of", "word"), ("word_book", "some"), ("is_bar", "thing"), ("overlap_row", "word"),
+          ("is_settled", "word"), ("replaced", "word"))
 ROW_ERRORS = {"table": ("BadTable", None), "weights": ("BadTable", None), "places": ("BadNumber", "place"),
-              "order": ("BadOrder", None)}
+              "order": ("BadOrder", None), "lines": ("BadWeb", None), "nothings": ("BadWeb", None)}
 
 
 def error_of(name):
@@ -123,7 +161,8 @@ def row_error_of(name):
 
 
 # Functions with a parameter that takes any value, to be judged.
-ANY = (("is_fitting", "thing"), ("is_bar", "thing"), ("is_order", "order"))
+ANY = (("is_fitting", "thing"), ("is_bar", "thing"), ("is_order", "order"), ("is_word_basis", "some"),
+       ("keeps", "thing"))
 # Where the document asks for another sequence than from left to right.
 LATER = (("rest_product", "one"),)
 
@@ -147,4 +186,14 @@ INTERFACE = {
     "orders": ("is_order", "head_of", "heads", "head_rules", "plain_words", "head_words", "word_book"),
     "settled": ("is_tidy", "overlaps", "overlap_row", "is_settled", "unsettled"),
     "sweeps": ("replaced", "swept"),
+    "wordrooms": ("is_word_basis", "word_basis"),
+    "follows": ("follows", "count_long", "count_far"),
+    "series": ("unrolled", "fraction"),
+    "growths": ("growth",),
+    "trials": ("tidy_orders", "first_tidy"),
+    "webs": ("web_book", "shut_web", "web_lots"),
+    "weblots": ("web_fraction", "shut_fraction", "is_straight", "first_straight"),
+    "sides": ("free_sides", "shut_sides", "ahead_sides", "behind_sides", "weighed_sides", "sides_told"),
+    "products": ("woven", "white_product", "black_product", "spaced_book"),
+    "twists": ("keeps", "turned_book", "passed_book"),
 }

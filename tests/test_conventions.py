@@ -79,7 +79,8 @@ class Conventions(unittest.TestCase):
         for function, given in calls.CALLS:
             wanted = shape(function(**given))
             for kind in (list, tuple):
-                other = {name: value if name in calls.TUPLES else turned(value, kind) for name, value in given.items()}
+                other = {name: value if (function.__name__, name) in calls.TUPLES else turned(value, kind)
+                         for name, value in given.items()}
                 self.assertEqual(shape(function(**other)), wanted, (function.__name__, kind))
 
     def test_nothing_handed_in_is_changed(self):

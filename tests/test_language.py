@@ -189,7 +189,10 @@ class Language(unittest.TestCase):
                 where = (name, getattr(node, "lineno", 0))
                 self.assertNotIsInstance(
                     node, (ast.GeneratorExp, ast.Lambda, ast.Starred, ast.NamedExpr, ast.Yield, ast.YieldFrom,
-                           ast.SetComp, ast.Set, ast.Global, ast.Nonlocal, ast.AnnAssign, ast.Div, ast.Pow), where)
+                           ast.SetComp, ast.Set, ast.Global, ast.Nonlocal, ast.AnnAssign, ast.Div), where)
+                if isinstance(node, ast.BinOp) and isinstance(node.op, ast.Pow):
+                    self.assertIsInstance(node.right, ast.Constant, where)
+                    self.assertIn(node.right.value, range(65), where)
                 if isinstance(node, ast.Constant):
                     self.assertNotIsInstance(node.value, (float, complex, bytes), where)
                     if isinstance(node.value, str) and not isinstance(node.above, ast.Expr):

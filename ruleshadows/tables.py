@@ -1,0 +1,25 @@
+"""Tables of letters: undone, and with rows and columns exchanged."""
+
+from ruleshadows.solving import dense, room_of
+
+
+def table_undone(prime, table):
+    """The table that undoes this one, as a tuple of tuples; None if there is none."""
+    size = len(table)
+    rows = []
+    for k, row in enumerate(table):
+        both = {at: number % prime for at, number in enumerate(row) if number % prime}
+        both[size + k] = 1
+        rows.append(both)
+    pivots = room_of(prime, rows)
+    if sorted(pivots) != list(range(size)):
+        return None
+    return tuple([
+        dense(size, {at - size: pivots[k][at] for at in pivots[k] if at >= size})
+        for k in range(size)
+    ])
+
+
+def exchanged(prime, table):
+    """The table with rows and columns exchanged, as a tuple of tuples."""
+    return tuple([tuple([row[at] % prime for row in table]) for at in range(len(table[0]))])
