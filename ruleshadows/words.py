@@ -78,15 +78,15 @@ def row_led(prime, letters, length, row, table):
     numbers = [number % prime for number in row]
     # The first letter is led and put behind the others: when each one had its turn, all stand as before.
     for _ in range(length):
-        numbers = _first_led_behind(prime, letters, numbers, table)
+        numbers = first_led_behind(prime, numbers, table)
     return tuple(numbers)
 
 
-def _first_led_behind(prime, letters, numbers, table):
+def first_led_behind(prime, numbers, table):
     """The row with the first letter of each word led and put behind all others."""
-    step = len(numbers) // letters
+    step = len(numbers) // len(table)
     return [
-        sum([numbers[a * step + spot] * table[a][b] for a in range(letters)]) % prime
+        sum([numbers[a * step + spot] * table[a][b] for a in range(len(table))]) % prime
         for spot in range(step)
-        for b in range(letters)
+        for b in range(len(table[0]))
     ]

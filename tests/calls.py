@@ -1,9 +1,9 @@
 """A right call of each function, with its parameters by name in their sequence, and what goes wrong with them."""
 
 from ruleshadows import (
-    bars, bases, books, cuts, follows, growths, ladders, lattices, leasts, orders, placerooms, places, products,
-    relations, rests, rooms, series, settled, shadows, sides, sweeps, trials, twists, undoing, weblots, webs, wordrooms,
-    words)
+    bars, bases, books, curved, cuts, follows, growths, ladders, lattices, leasts, longs, losses, lowered, lowerings,
+    maps, moved, orders, placerooms, places, products, relations, rests, rooms, series, settled, shadows, shares, sides,
+    sweeps, trials, twists, undoing, upto, weblots, webs, wordrooms, words)
 from samples import chance_book
 
 BOOK = books.exchange_book(3, 2)
@@ -139,11 +139,61 @@ THIRD = [
     made(twists.passed_book, book=MINUS, table=TURN),
 ]
 
-CALLS = FIRST + SECOND + THIRD
+LOW = lowered.Lowered(books.exchange_book(5, 2), [[1, 7]], [3])
+LONG = [1, 2, 0, 7, -1, 4, 5]
+SENT = [[1, 2, 0], [3, 6, 5]]
+
+FOURTH = [
+    made(shares.kept_letters, book=books.minus_book(5, 3), places=(0, 2)),
+    made(shares.left_out, book=books.minus_book(5, 3), places=(0, 2)),
+    made(shares.shared_sides, one=MINUS, other=MINUS, many=1),
+    made(maps.is_map, one=MINUS, other=MINUS, thing=TURN),
+    made(maps.row_sent, one=LOW.book, other=books.exchange_book(5, 3), table=SENT, length=2, row=[1, 2, 9, 0]),
+    made(maps.lost_by, one=LOW.book, other=books.exchange_book(5, 3), table=SENT, length=2),
+    made(maps.reached_by, one=LOW.book, other=books.exchange_book(5, 3), table=SENT, length=2),
+    made(maps.sent_behind, prime=5, first=[[1, 7], [0, 2]], second=SENT),
+    made(maps.sent_back, prime=5, table=SENT),
+    made(maps.letter_maps, one=MINUS, other=MINUS),
+    made(maps.keepers, book=MINUS),
+    made(maps.bent, one=MINUS, other=BENT, table=[[1, 7], [0, 2], [3, 3], [4, 0]]),
+    made(lowered.Lowered, book=MINUS, sums=[[1, 7], [0, 2], [3, 3]], numbers=[1, 0, -1]),
+    made(lowered.unlowered, book=MINUS),
+    made(longs.long_size, letters=2, length=3),
+    made(longs.long_place, letters=2, length=3, word=(1, 0)),
+    made(longs.long_word, letters=2, length=3, place=5),
+    made(longs.long_cut, prime=5, letters=2, length=2, long=LONG),
+    made(longs.long_joined, prime=5, letters=2, rows=[[6], [1, 9]]),
+    made(longs.long_rules, lowered=LOW),
+    made(longs.lowered_from, prime=5, letters=2, longs=[LONG, [0, 1, 0, 0, 0, 0, 8]]),
+    made(upto.long_nothing, lowered=LOW, length=3),
+    made(upto.kept_words, lowered=LOW, length=3),
+    made(upto.count_up_to, lowered=LOW, length=3),
+    made(upto.long_rest, lowered=LOW, length=2, long=LONG),
+    made(upto.long_product, lowered=LOW, first=1, one=[1, 2, 8], second=2, other=LONG),
+    made(upto.tops, lowered=LOW, length=3, top=2),
+    made(losses.loss, lowered=LOW, length=3),
+    made(losses.first_loss, lowered=LOW, most=4),
+    made(losses.defects, lowered=lowered.unlowered(MINUS)),
+    made(curved.shadow_curve, lowered=LOW),
+    made(curved.shadow_slope, lowered=LOW, letter=1),
+    made(curved.shadow_step, lowered=LOW, length=1, row=[1, 9]),
+    made(curved.has_step, lowered=LOW),
+    made(curved.lowered_by, book=MINUS, slopes=[[1, 2, 3, 9], [0, 0, 1, 0]], curve=[1, 1, 7, 0]),
+    made(lowerings.sums_room, book=MINUS),
+    made(lowerings.numbers_for, book=LOW.book, sums=[[1, 7]]),
+    made(lowerings.lowerings, book=LOW.book),
+    made(moved.lowered_moved, lowered=LOW, numbers=[1, 9]),
+    made(moved.lowered_led, lowered=LOW, table=TABLE),
+    made(moved.lowered_read_back, lowered=LOW),
+    made(moved.least_lowered, lowered=LOW),
+]
+
+CALLS = FIRST + SECOND + THIRD + FOURTH
 
 # Parameters that hold tuples that may not be lists.
 TUPLES = (("spot_of", "word"), ("word_book", "some"), ("is_bar", "thing"), ("overlap_row", "word"),
-          ("is_settled", "word"), ("replaced", "word"))
+          ("is_settled", "word"), ("replaced", "word"), ("kept_letters", "places"), ("left_out", "places"),
+          ("long_place", "word"))
 ROW_ERRORS = {"table": ("BadTable", None), "weights": ("BadTable", None), "places": ("BadNumber", "place"),
               "order": ("BadOrder", None), "lines": ("BadWeb", None), "nothings": ("BadWeb", None)}
 
@@ -155,16 +205,18 @@ def error_of(name):
     return ("BadNumber", name)
 
 
-def row_error_of(name):
+def row_error_of(function, name):
     """The same for a list or tuple with True in it."""
+    if function == "sent_behind":
+        return ("BadTable", None)
     return ROW_ERRORS.get(name, ("BadWord", None) if name in ("word", "some") else ("BadRow", None))
 
 
 # Functions with a parameter that takes any value, to be judged.
 ANY = (("is_fitting", "thing"), ("is_bar", "thing"), ("is_order", "order"), ("is_word_basis", "some"),
-       ("keeps", "thing"))
+       ("keeps", "thing"), ("is_map", "thing"))
 # Where the document asks for another sequence than from left to right.
-LATER = (("rest_product", "one"),)
+LATER = (("rest_product", "one"), ("long_product", "one"))
 
 INTERFACE = {
     "words": ("spot_of", "word_at", "words", "beside", "row_led"),
@@ -196,4 +248,14 @@ INTERFACE = {
     "sides": ("free_sides", "shut_sides", "ahead_sides", "behind_sides", "weighed_sides", "sides_told"),
     "products": ("woven", "white_product", "black_product", "spaced_book"),
     "twists": ("keeps", "turned_book", "passed_book"),
+    "shares": ("kept_letters", "left_out", "shared_sides"),
+    "maps": ("is_map", "row_sent", "lost_by", "reached_by", "sent_behind", "sent_back", "letter_maps", "keepers",
+             "bent"),
+    "lowered": ("Lowered", "unlowered"),
+    "longs": ("long_size", "long_place", "long_word", "long_cut", "long_joined", "long_rules", "lowered_from"),
+    "upto": ("long_nothing", "kept_words", "count_up_to", "long_rest", "long_product", "tops"),
+    "losses": ("loss", "first_loss", "defects"),
+    "curved": ("shadow_curve", "shadow_slope", "shadow_step", "has_step", "lowered_by"),
+    "lowerings": ("sums_room", "numbers_for", "lowerings"),
+    "moved": ("lowered_moved", "lowered_led", "lowered_read_back", "least_lowered"),
 }

@@ -7,12 +7,13 @@ import unittest
 import calls
 from ruleshadows import errors
 from ruleshadows.books import Rules
+from ruleshadows.lowered import Lowered
 
 
 def shape(value):
     """A value with its kinds, so that a list is no tuple and True no number; a rule book by all it holds."""
-    if isinstance(value, Rules):
-        return ("Rules", [(name, shape(kept)) for name, kept in sorted(vars(value).items())])
+    if isinstance(value, (Rules, Lowered)):
+        return (value.__class__.__name__, [(name, shape(kept)) for name, kept in sorted(vars(value).items())])
     if isinstance(value, (list, tuple)):
         return (value.__class__.__name__, [shape(part) for part in value])
     if isinstance(value, dict):
@@ -107,26 +108,46 @@ class Conventions(unittest.TestCase):
                         self.refused(calls.error_of(name), function, {**given, name: wrong})
                 if isinstance(value, (list, tuple)):
                     for wrong in with_true(value):
-                        self.refused(calls.row_error_of(name), function, {**given, name: wrong})
+                        self.refused(calls.row_error_of(function.__name__, name), function, {**given, name: wrong})
 
     def test_wrong_books_are_told_ahead_of_all_else(self):
         for function, given in calls.CALLS:
             for name, value in given.items():
-                if isinstance(value, Rules):
-                    for wrong in (None, True, 3, "book", [value], vars(value)):
-                        wrongs = {other: None if not isinstance(kept, Rules) else kept for other, kept in given.items()}
-                        with self.assertRaises(errors.BadBook, msg=function.__name__) as caught:
+                if isinstance(value, (Rules, Lowered)):
+                    error, other_kind = (errors.BadBook, calls.LOW) if isinstance(value, Rules) else (
+                        errors.BadLower, calls.BENT)
+                    for wrong in (None, True, 3, "book", [value], vars(value), other_kind):
+                        wrongs = {other: kept if isinstance(kept, Rules) else None for other, kept in given.items()}
+                        with self.assertRaises(error, msg=function.__name__) as caught:
                             function(**{**wrongs, name: wrong})
-                        self.assertIsNone(caught.exception.part)
+                        self.assertIsNone(getattr(caught.exception, "part", None))
+
+    def test_two_wrong_books_the_first_one_is_told(self):
+        for function, given in calls.CALLS:
+            wrong = {name: None if isinstance(value, Rules) else value for name, value in given.items()}
+            if wrong != given:
+                self.refused(("BadBook", None), function, wrong)
+
+    def test_two_books_have_one_prime(self):
+        some = 0
+        for function, given in calls.CALLS:
+            names = [name for name, value in given.items() if isinstance(value, Rules)]
+            if len(names) == 2:
+                some += 1
+                unlike = Rules(7, given[names[1]].letters, [])
+                with self.assertRaises(errors.BadBook, msg=function.__name__) as caught:
+                    function(**{**{name: None for name in given}, names[0]: given[names[0]], names[1]: unlike})
+                self.assertEqual(caught.exception.part, "prime")
+        self.assertGreater(some, 15)
 
     def test_wrong_kinds_are_told_from_left_to_right(self):
         for function, given in calls.CALLS:
             names = [name for name in given if (function.__name__, name) not in calls.ANY]
             for at, name in enumerate(names):
-                if isinstance(given[name], Rules):
+                if isinstance(given[name], (Rules, Lowered)):
                     continue
                 wrongs = {**given, **{other: None for other in names[at:]}}
-                told = calls.error_of(name) if isinstance(given[name], int) else calls.row_error_of(name)
+                told = calls.error_of(name) if isinstance(given[name], int) else calls.row_error_of(function.__name__, name)
                 if (function.__name__, name) in calls.LATER:
                     continue
                 self.refused(told, function, wrongs)
