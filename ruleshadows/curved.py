@@ -29,8 +29,10 @@ def _curve(lowered):
 
 def _slopes(lowered):
     """For each letter a row that tells its number in each sum."""
-    letters = range(lowered.book.letters)
-    return [_telling(lowered.book, [total[letter] for total in lowered.sums]) for letter in letters]
+    return [
+        _telling(lowered.book, [total[letter] for total in lowered.sums])
+        for letter in range(lowered.book.letters)
+    ]
 
 
 def _telling(book, numbers):

@@ -66,11 +66,11 @@ def _sent_rests(stock, others, table, length):
     for longer in range(1, length + 1):
         steps = others.right_rows(longer - 1)
         ends = [stock.peeled(longer, k, 1) for k in range(stock.many(longer))]
-        rows = [_sent_behind(others, rows[start], table[letter], steps) for letter, start in ends]
+        rows = [_followed_sent(others, rows[start], table[letter], steps) for letter, start in ends]
     return rows
 
 
-def _sent_behind(others, row, letter_row, steps):
+def _followed_sent(others, row, letter_row, steps):
     """A row followed by the sum of letters that one letter is sent to."""
     total = {}
     for c, number in enumerate(letter_row):

@@ -4,7 +4,7 @@ from ruleshadows.solving import dense, room_of
 
 
 def table_undone(prime, table):
-    """The table that undoes this one, as a tuple of tuples; None if there is none."""
+    """The table that undoes this one, which can be undone, as a tuple of tuples."""
     size = len(table)
     rows = []
     for k, row in enumerate(table):
@@ -12,8 +12,6 @@ def table_undone(prime, table):
         both[size + k] = 1
         rows.append(both)
     pivots = room_of(prime, rows)
-    if sorted(pivots) != list(range(size)):
-        return None
     return tuple([
         dense(size, {at - size: pivots[k][at] for at in pivots[k] if at >= size})
         for k in range(size)

@@ -98,7 +98,8 @@ def moved_plainly(lowered, moves):
         for word, x in rule.items():
             parts = [((), x)]
             for letter in word:
-                parts = [(ahead + (letter,), y) for ahead, y in parts] + [(ahead, y * moves[letter]) for ahead, y in parts]
+                kept = [(ahead + (letter,), y) for ahead, y in parts]
+                parts = kept + [(ahead, y * moves[letter]) for ahead, y in parts]
             for found, y in parts:
                 told[found] = told.get(found, 0) + y
         sums.append(tuple(-told.get((a,), 0) % prime for a in range(letters)))

@@ -147,7 +147,9 @@ class Conventions(unittest.TestCase):
                 if isinstance(given[name], (Rules, Lowered)):
                     continue
                 wrongs = {**given, **{other: None for other in names[at:]}}
-                told = calls.error_of(name) if isinstance(given[name], int) else calls.row_error_of(function.__name__, name)
+                told = calls.row_error_of(function.__name__, name)
+                if isinstance(given[name], int):
+                    told = calls.error_of(name)
                 if (function.__name__, name) in calls.LATER:
                     continue
                 self.refused(told, function, wrongs)

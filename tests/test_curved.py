@@ -112,7 +112,8 @@ class Curved(Asks, unittest.TestCase):
                     bent = [x - y for x, y in zip(plain.beside(prime, row, curve), plain.beside(prime, curve, row))]
                     self.assertEqual(twice, rest(dark, length + 2, bent), told_lowered(lowered))
                 for first in range(length + 1):
-                    one, other = chance_row(letters ** first, prime, 7), chance_row(letters ** (length - first), prime, 8)
+                    one = chance_row(letters ** first, prime, 7)
+                    other = chance_row(letters ** (length - first), prime, 8)
                     both = shadow_step(lowered, length, plain.beside(prime, one, other))
                     ahead = plain.beside(prime, shadow_step(lowered, first, one), other)
                     behind = plain.beside(prime, one, shadow_step(lowered, length - first, other))
@@ -171,7 +172,8 @@ class Curved(Asks, unittest.TestCase):
         end = not any(shadow_step(lowered, 2, curve))
         letters = True
         for letter in plain.identity(book.letters):
-            bent = [x - y for x, y in zip(plain.beside(book.prime, letter, curve), plain.beside(book.prime, curve, letter))]
+            ahead, behind = plain.beside(book.prime, letter, curve), plain.beside(book.prime, curve, letter)
+            bent = [x - y for x, y in zip(ahead, behind)]
             twice = shadow_step(lowered, 2, shadow_step(lowered, 1, letter))
             letters = letters and twice == rest(dark, 3, bent)
         found[(rules, letters, end)] = True
@@ -198,7 +200,8 @@ class Curved(Asks, unittest.TestCase):
         book = exchange_book(3, 2)
         for wrong in (None, 0, "x", [book], unlowered(book)):
             self.refuses(NO_BOOK, lowered_by, wrong, None, None)
-        for wrong in (None, 0, [], [[1] * 4], [[1] * 4] * 3, [[1] * 4, [1] * 3], [[1] * 4, [1, 2, 3, True]], [1] * 8, "ab"):
+        for wrong in (None, 0, [], [[1] * 4], [[1] * 4] * 3, [[1] * 4, [1] * 3], [[1] * 4, [1, 2, 3, True]], [1] * 8,
+                      "ab"):
             self.refuses("BadRow", lowered_by, book, wrong, [0] * 4)
         for wrong in (None, 0, [], [1] * 3, [1] * 5, [1, 2, 3, True], "abcd"):
             self.refuses("BadRow", lowered_by, book, [[1] * 4] * 2, wrong)

@@ -30,7 +30,8 @@ class Longs(Asks, unittest.TestCase):
         self.assertEqual(long_word(9, 3, 0), (0, 0, 0))
 
     def test_too_many(self):
-        for letters, length in ((1, 1000), (2, 9), (3, 6), (4, 5), (5, 5), (6, 4), (9, 4), (1, 10 ** 12), (9, 10 ** 12)):
+        far = 10 ** 12
+        for letters, length in ((1, 1000), (2, 9), (3, 6), (4, 5), (5, 5), (6, 4), (9, 4), (1, far), (9, far)):
             self.refuses(MANY, long_size, letters, length)
             self.refuses(MANY, long_place, letters, length, None)
             self.refuses(MANY, long_word, letters, length, None)

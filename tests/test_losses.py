@@ -61,8 +61,9 @@ class Losses(Asks, unittest.TestCase):
             losses = [loss(lowered, k) for k in range(length + 1)]
             self.assertEqual(losses, sorted(losses), told_lowered(lowered))
             self.assertEqual(losses[:3], [0, 0, 0])
-            beyond = [len(tops(lowered, length, top)) - len(nothing_room(lowered.book, top)) for top in range(length + 1)]
-            self.assertEqual(sum(beyond), losses[-1])
+            there = sum(len(tops(lowered, length, top)) for top in range(length + 1))
+            nothing = sum(len(nothing_room(lowered.book, top)) for top in range(length + 1))
+            self.assertEqual(there - nothing, losses[-1])
         for book in small_books():
             self.assertEqual(loss(unlowered(book), 3), 0)
             self.assertIsNone(first_loss(unlowered(book), 4))

@@ -37,7 +37,8 @@ def map_pairs():
     for one, other in few_pairs() + [(exchange_book(2, 2), exchange_book(2, 3)), (bent_book(2), bent_book(2)),
                                      (told_book(3, 2, [{(0, 0): 1}]), minus_book(3, 2))]:
         if one.prime ** (one.letters * other.letters) <= 100:
-            some = [table for table in all_tables(one.prime, one.letters, other.letters) if plain_map(one, other, table)]
+            tables = all_tables(one.prime, one.letters, other.letters)
+            some = [table for table in tables if plain_map(one, other, table)]
             found += [(one, other, table) for table in some[:3] + some[3::5]]
     for prime, n, m in ((97, 2, 2), (5, 3, 2), (5, 1, 3), (3, 2, 3)):
         for seed in range(3):
@@ -110,7 +111,9 @@ class Maps(Asks, unittest.TestCase):
                 longer = lost_by(one, other, table, length + 1)
                 for row in lost:
                     for letter in plain.identity(one.letters):
-                        for found in (rest_product(one, 1, letter, length, row), rest_product(one, length, row, 1, letter)):
+                        ahead = rest_product(one, 1, letter, length, row)
+                        behind = rest_product(one, length, row, 1, letter)
+                        for found in (ahead, behind):
                             self.assertTrue(plain.within(one.prime, longer, found), (told(one), told(other), table))
 
     def test_fact_maps_one_behind_the_other(self):

@@ -143,8 +143,8 @@ class Moved(Asks, unittest.TestCase):
             self.refuses("BadLower", least_lowered, wrong)
         for wrong in NUMBERS_NOT + ([], [1, 2, 3], [1, True], "ab", {0: 1, 1: 1}):
             self.refuses("BadRow", lowered_moved, lowered, wrong)
-        for wrong in (None, 0, [], [[1, 0]], [[1, 1], [1, 1]], [[1, 0], [0, 3]], [[1, 0], [0, True]], [1, 0, 0, 1], "ab",
-                      [[1, 0, 0], [0, 1, 0], [0, 0, 1]]):
+        for wrong in (None, 0, [], [[1, 0]], [[1, 1], [1, 1]], [[1, 0], [0, 3]], [[1, 0], [0, True]], [1, 0, 0, 1],
+                      "ab", [[1, 0, 0], [0, 1, 0], [0, 0, 1]]):
             self.refuses("BadTable", lowered_led, lowered, wrong)
         self.refuses(MANY, least_lowered, unlowered(free_book(3, 7)))
         self.refuses(MANY, least_lowered, unlowered(free_book(37, 2)))

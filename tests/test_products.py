@@ -31,7 +31,8 @@ def plain_spaced(book, step):
     some = plain.rest_words(prime, letters, book.rules, step)
     room = plain.nothing(prime, letters, book.rules, 2 * step)
     every = plain.words(letters, 2 * step)
-    rests = [plain.left(prime, room, plain.unit(len(every), every.index(one + other))) for one in some for other in some]
+    pairs = [one + other for one in some for other in some]
+    rests = [plain.left(prime, room, plain.unit(len(every), every.index(word))) for word in pairs]
     return Rules(prime, len(some), plain.dark(prime, plain.transposed(rests), len(some) ** 2))
 
 

@@ -19,8 +19,8 @@ def plain_kept(book, places):
     """The rules that are sums of words of these letters, renamed."""
     size = book.letters ** 2
     flat = [plain.unit(size, a * book.letters + b) for a in places for b in places]
-    found = plain.common(book.prime, book.rules, flat, size)
-    return Rules(book.prime, len(places), [[row[a * book.letters + b] for a in places for b in places] for row in found])
+    rows = plain.common(book.prime, book.rules, flat, size)
+    return Rules(book.prime, len(places), [[row[a * book.letters + b] for a in places for b in places] for row in rows])
 
 
 def overlapping():

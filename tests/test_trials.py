@@ -18,7 +18,8 @@ class Trials(Asks, unittest.TestCase):
         for book in small_books() + word_books():
             found = tidy_orders(book)
             self.assertIsInstance(found, list)
-            self.assertEqual(found, [tuple(order) for order in orders(book.letters) if is_tidy(book, order)], told(book))
+            wanted = [tuple(order) for order in orders(book.letters) if is_tidy(book, order)]
+            self.assertEqual(found, wanted, told(book))
             self.assertEqual(first_tidy(book), found[0] if found else None)
             some[bool(found)] += 1
         self.assertTrue(some[True] > 20 and some[False] > 20)

@@ -34,20 +34,23 @@ class UpTo(Asks, unittest.TestCase):
 
     def test_tops_by_the_plain_way(self):
         for lowered in some_lowered():
-            letters, prime = lowered.book.letters, lowered.book.prime
-            length = longest_up_to(lowered)
-            room = plain_nothing(lowered, length)
-            total = 0
-            for top in range(length + 1):
-                starts = [at for at, word in enumerate(long_words(letters, length)) if len(word) == top]
-                rows = [row[starts[0]:starts[-1] + 1] for row in room if not any(row[:starts[0]])]
-                found = tops(lowered, length, top)
-                self.assertEqual(found, plain.gauss(prime, rows), (told_lowered(lowered), top))
-                total += len(found)
-                for row in nothing_room(lowered.book, top):
-                    self.assertTrue(plain.within(prime, found, row))
-            self.assertEqual(tops(lowered, length, length), nothing_room(lowered.book, length))
-            self.assertEqual(total, len(room))
+            for length in (2, longest_up_to(lowered)):
+                self.check_tops(lowered, length)
+
+    def check_tops(self, lowered, length):
+        letters, prime = lowered.book.letters, lowered.book.prime
+        room = plain_nothing(lowered, length)
+        total = 0
+        for top in range(length + 1):
+            starts = [at for at, word in enumerate(long_words(letters, length)) if len(word) == top]
+            rows = [row[starts[0]:starts[-1] + 1] for row in room if not any(row[:starts[0]])]
+            found = tops(lowered, length, top)
+            self.assertEqual(found, plain.gauss(prime, rows), (told_lowered(lowered), top))
+            total += len(found)
+            for row in nothing_room(lowered.book, top):
+                self.assertTrue(plain.within(prime, found, row))
+        self.assertEqual(tops(lowered, length, length), nothing_room(lowered.book, length))
+        self.assertEqual(total, len(room))
 
     def test_products_by_the_plain_way(self):
         for lowered in some_lowered():
@@ -99,6 +102,7 @@ class UpTo(Asks, unittest.TestCase):
         self.assertEqual(count_up_to(unlowered(free_book(5, 1)), 999), 1000)
         for length in (0, 1):
             self.assertEqual(long_nothing(losing_example(3), length), [])
+            self.assertEqual([tops(losing_example(3), length, top) for top in range(length + 1)], [[]] * (length + 1))
         # aa + ab = 1 and bb = 0: at four letters one row more is told that has two letters.
         losing = losing_example(3)
         self.assertEqual([len(tops(losing, 4, top)) for top in range(5)],
