@@ -74,6 +74,6 @@ def counted_size(prime, size, rooms):
     # With a fitting basis each row of it in some room is counted just once.
     split = split_rooms(prime, size, told)
     if split is not None:
-        return len([mark for mark in split.marks if mark])
+        return len([held for held in split.bits if held])
     commons = lot_commons(prime, size, told)
     return sum([len(commons[lot]) if len(lot) & 1 else -len(commons[lot]) for lot in commons if lot])

@@ -42,8 +42,8 @@ def lot_numbers(prime, size, rooms):
     lots = all_lots(len(rooms))
     split = split_rooms(prime, size, told)
     if split is not None:
-        marks = {lot: sum([1 << at for at in lot]) for lot in lots}
-        return {lot: split.marks.count(marks[lot]) for lot in lots}
+        bits = {lot: sum([1 << at for at in lot]) for lot in lots}
+        return {lot: split.bits.count(bits[lot]) for lot in lots}
     commons = lot_commons(prime, size, told)
     return {lot: _beyond(prime, lot, commons, len(rooms)) for lot in lots}
 

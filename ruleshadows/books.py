@@ -1,13 +1,6 @@
 """Rule books: a prime, some letters, and rules of two letters."""
 
-from ruleshadows.checks import (
-    MOST_LETTERS,
-    check_letters,
-    check_prime,
-    check_rows,
-    is_list,
-    is_table,
-)
+from ruleshadows.checks import check_letters, check_prime, check_rows, is_table, table_letters
 from ruleshadows.errors import BadBook, BadTable
 from ruleshadows.solving import rank, sparse, tidied
 from ruleshadows.words import row_led
@@ -85,9 +78,7 @@ def minus_book(prime, letters):
 def weighed_book(prime, weights):
     """The rule book with ba less a weight times ab for all a below b, and aa where the weight is not 0."""
     check_prime(prime)
-    letters = len(weights) if is_list(weights) else 0
-    if not 1 <= letters <= MOST_LETTERS or not is_table(weights, letters):
-        raise BadTable("a list of 1 to 9 rows of as many numbers is asked")
+    letters = table_letters(weights)
     if any([weights[b][a] % prime == 0 for b in range(letters) for a in range(b)]):
         raise BadTable("the prime divides a number below the diagonal")
     return _weighed(prime, weights)

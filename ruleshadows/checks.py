@@ -1,6 +1,6 @@
 """What several functions ask of what is handed in."""
 
-from ruleshadows.errors import BadNumber, BadPrime, BadRow, TooMany
+from ruleshadows.errors import BadNumber, BadPrime, BadRow, BadTable, TooMany
 
 PRIMES = (2, 3, 5, 7, 11, 13, 17, 19, 23, 29, 31, 37, 41, 43, 47, 53, 59, 61, 67, 71, 73, 79, 83, 89, 97)
 MOST_LETTERS = 9
@@ -30,6 +30,11 @@ def is_rows(value, size):
 def is_table(value, letters):
     """Whether any value is a letter table for so many letters."""
     return is_rows(value, letters) and len(value) == letters
+
+
+def is_any_table(value):
+    """Whether any value is a letter table for 1 to 9 letters."""
+    return is_list(value) and 1 <= len(value) <= MOST_LETTERS and is_table(value, len(value))
 
 
 def is_word(value, letters):
@@ -77,6 +82,13 @@ def check_rows(rows, size):
     """Raises BadRow unless this is a list of rows of this size."""
     if not is_rows(rows, size):
         raise BadRow("a list of rows of one size is asked")
+
+
+def table_letters(table):
+    """How many letters the table is for; BadTable unless it is a letter table for 1 to 9 letters."""
+    if not is_any_table(table):
+        raise BadTable("a list of 1 to 9 rows of as many numbers is asked")
+    return len(table)
 
 
 def words_many(letters, length):

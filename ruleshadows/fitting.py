@@ -11,19 +11,19 @@ def _renamed(row, names):
 class Split:
     """A basis that fits the rooms put in so far.
 
-    For each row of the basis a mark tells the rooms that it lies in: room k by the bit k. So a room is told by
-    its marks, and what several of them have in common by the rows that have all of their bits.
+    For each row of the basis bits tell the rooms that it lies in: room k by the bit k. So what several rooms have
+    in common is told by the rows that have all of their bits.
     """
 
     def __init__(self, prime, size):
         self.prime = prime
         self.rows = unit_rows(size)
-        self.marks = [0] * size
+        self.bits = [0] * size
 
     def put_room(self, index, told):
         """One room more, told by the basis. What changes in the basis, by rows; None if no basis fits it, too."""
-        # By the marks, ascending: what lies in more rooms comes behind all that lies in some of them.
-        ranked = sorted([(held, place) for place, held in enumerate(self.marks)])
+        # By the bits, ascending: what lies in more rooms comes behind all that lies in some of them.
+        ranked = sorted([(held, place) for place, held in enumerate(self.bits)])
         order = [pair[1] for pair in ranked]
         spots = {place: spot for spot, place in enumerate(order)}
         room = room_of(self.prime, [_renamed(told_row, spots) for told_row in told])
@@ -31,13 +31,13 @@ class Split:
         tails = {}
         for spot in sorted(room):
             row = _renamed(room[spot], order)
-            mark = self.marks[order[spot]]
-            if any([self.marks[at] & mark != mark for at in row]):
+            own = self.bits[order[spot]]
+            if any([self.bits[at] & own != own for at in row]):
                 return None
             tails[order[spot]] = row
         for at, row in tails.items():
             self.rows[at] = mixed(self.prime, row, self.rows)
-            self.marks[at] = self.marks[at] | (1 << index)
+            self.bits[at] = self.bits[at] | (1 << index)
         return tails
 
     def retold(self, row, tails):

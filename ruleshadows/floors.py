@@ -30,7 +30,7 @@ class Ladder:
         ground.settle(0, {})
         self.floors = [ground]
 
-    def _pairs(self, step, length):
+    def _rung_pairs(self, step, length):
         """The pairs of which the sums of this length on this floor are made, ascending."""
         pairs = []
         for place, start in enumerate(self.floors[step].lengths):
@@ -74,7 +74,7 @@ class Ladder:
 
     def _silent(self, step, length):
         """A basis of the sums of this length on this floor that are led to nothing; on floor 0 of all sums."""
-        pairs = self._pairs(step, length)
+        pairs = self._rung_pairs(step, length)
         if step == 0:
             return [{pair: 1} for pair in pairs]
         found = kernel_rows(self.rests.prime, self._led_rows(step, length))

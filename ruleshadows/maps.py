@@ -7,7 +7,7 @@ from ruleshadows.pairs import check_primes
 from ruleshadows.rests import rest
 from ruleshadows.reststock import RestStock, followed
 from ruleshadows.solving import dense_rows, kernel_rows, put_times, reduced, room_of, sparse, tidy_rows
-from ruleshadows.tables import exchanged
+from ruleshadows.tables import exchanged, joined
 from ruleshadows.twists import keeps
 from ruleshadows.words import first_led_behind
 
@@ -108,7 +108,7 @@ def sent_behind(prime, first, second):
     check_prime(prime)
     if not _is_any_table(first) or not _is_any_table(second) or len(first[0]) != len(second):
         raise BadTable("two tables, the one of which goes on where the other one ends, are asked")
-    return tuple([tuple(_sent(prime, 1, row, second)) for row in first])
+    return joined(prime, first, second)
 
 
 def sent_back(prime, table):

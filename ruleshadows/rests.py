@@ -71,6 +71,9 @@ def ending(book, most):
     check_book(book)
     check_from(most, 0, "most")
     words_many(book.letters, most)
+    # Without rules there is no end, and with one letter no bound to stop at.
+    if not book.rules:
+        return None
     stock = RestStock(book)
     for length in range(most + 1):
         if stock.many(length) == 0:

@@ -1,9 +1,10 @@
 """A right call of each function, with its parameters by name in their sequence, and what goes wrong with them."""
 
 from ruleshadows import (
-    bars, bases, books, curved, cuts, follows, growths, ladders, lattices, leasts, longs, losses, lowered, lowerings,
-    maps, moved, orders, placerooms, places, products, relations, rests, rooms, series, settled, shadows, shares, sides,
-    sweeps, trials, twists, undoing, upto, weblots, webs, wordrooms, words)
+    bars, bases, books, curved, cuts, families, follows, formfamilies, forms, growths, keeping, keepsplits, ladders,
+    lattices, leasts, longs, losses, lowered, lowerings, maps, moved, orders, placerooms, places, products, raised,
+    relations, rests, rising, rooms, series, settled, shadows, shares, sides, sums, sweeps, telling, trials, twists,
+    undoing, upto, weblots, webs, wholesums, wordrooms, words)
 from samples import chance_book
 
 BOOK = books.exchange_book(3, 2)
@@ -188,14 +189,51 @@ FOURTH = [
     made(moved.least_lowered, lowered=LOW),
 ]
 
-CALLS = FIRST + SECOND + THIRD + FOURTH
+SHARP = books.shut_book(5, 2)
+DARK = books.minus_book(5, 2)
+CELLS = [[[1, 7], [0, 2]], [[3, 3], [-1, 0]]]
+
+FIFTH = [
+    made(families.bracket_lowered, prime=5, letters=3, rows=[[1, 7, 0], [0, -1, 2], [3, 3, 3]]),
+    made(families.form_lowered, prime=5, form=[[1, 7], [0, -1]]),
+    made(families.twist_lowered, prime=5, form=[[1, 7], [0, -1]]),
+    made(raised.raised, lowered=LOW),
+    made(forms.top_length, book=DARK, most=4),
+    made(forms.pair_square, book=DARK, first=1, second=1),
+    made(forms.is_paired, book=DARK, most=4),
+    made(forms.turner, book=DARK, most=4),
+    made(formfamilies.square_book, prime=5, square=[[1, 7], [0, -1]]),
+    made(formfamilies.signed_sum, prime=5, letters=3),
+    made(formfamilies.ring_sum, prime=5, one=7, other=-1, third=2),
+    made(rising.rising_map, book=BENT, length=2, step=1),
+    made(rising.rising_lost, book=BENT, length=2, step=1),
+    made(telling.told_counts, book=LOW.book, most=4, length=6),
+    made(telling.counts_back, book=LOW.book, most=4, many=6),
+    made(sums.rules_of_sum, prime=5, letters=2, length=2, row=[0, 7, -1, 2]),
+    made(sums.rules_from_right, prime=5, letters=2, length=2, row=[0, 7, -1, 2]),
+    made(sums.is_full, prime=5, letters=2, length=2, row=[0, 7, -1, 2]),
+    made(sums.turned_round, prime=5, letters=2, length=2, row=[0, 7, -1, 2], table=TABLE),
+    made(sums.round_table, prime=5, letters=2, length=2, row=[0, 7, -1, 2]),
+    made(wholesums.whole_sum, book=LOW.book, most=4),
+    made(wholesums.sums_for, book=LOW.book, length=2),
+    made(keeping.cells_keep, one=BENT, other=MINUS, third=SHARP, length=1, cells=CELLS),
+    made(keeping.beside_led, one=BENT, other=MINUS, third=SHARP, length=1, cells=CELLS, many=1, row=[1, 9]),
+    made(keeping.keeping_book, one=BENT, other=MINUS),
+    made(keeping.plain_cells, one=BENT, other=MINUS),
+    made(keeping.cells_sent, one=BENT, other=MINUS, third=SHARP, length=1, cells=CELLS, many=1, row=[1, 9, 0, 2]),
+    made(keepsplits.keeping_split, one=BENT, middle=MINUS, other=SHARP, many=1, row=[1, 9, 0, 2]),
+    made(keepsplits.plain_number, book=BENT, many=1, row=[1, 9, 0, 2]),
+]
+
+CALLS = FIRST + SECOND + THIRD + FOURTH + FIFTH
 
 # Parameters that hold tuples that may not be lists.
 TUPLES = (("spot_of", "word"), ("word_book", "some"), ("is_bar", "thing"), ("overlap_row", "word"),
           ("is_settled", "word"), ("replaced", "word"), ("kept_letters", "places"), ("left_out", "places"),
           ("long_place", "word"))
 ROW_ERRORS = {"table": ("BadTable", None), "weights": ("BadTable", None), "places": ("BadNumber", "place"),
-              "order": ("BadOrder", None), "lines": ("BadWeb", None), "nothings": ("BadWeb", None)}
+              "order": ("BadOrder", None), "lines": ("BadWeb", None), "nothings": ("BadWeb", None),
+              "form": ("BadTable", None), "square": ("BadTable", None), "cells": ("BadCells", None)}
 
 
 def error_of(name):
@@ -214,7 +252,7 @@ def row_error_of(function, name):
 
 # Functions with a parameter that takes any value, to be judged.
 ANY = (("is_fitting", "thing"), ("is_bar", "thing"), ("is_order", "order"), ("is_word_basis", "some"),
-       ("keeps", "thing"), ("is_map", "thing"))
+       ("keeps", "thing"), ("is_map", "thing"), ("cells_keep", "cells"))
 # Where the document asks for another sequence than from left to right.
 LATER = (("rest_product", "one"), ("long_product", "one"))
 
@@ -258,4 +296,14 @@ INTERFACE = {
     "curved": ("shadow_curve", "shadow_slope", "shadow_step", "has_step", "lowered_by"),
     "lowerings": ("sums_room", "numbers_for", "lowerings"),
     "moved": ("lowered_moved", "lowered_led", "lowered_read_back", "least_lowered"),
+    "families": ("bracket_lowered", "form_lowered", "twist_lowered"),
+    "raised": ("raised",),
+    "forms": ("top_length", "pair_square", "is_paired", "turner"),
+    "formfamilies": ("square_book", "signed_sum", "ring_sum"),
+    "rising": ("rising_map", "rising_lost"),
+    "telling": ("told_counts", "counts_back"),
+    "sums": ("rules_of_sum", "rules_from_right", "is_full", "turned_round", "round_table"),
+    "wholesums": ("whole_sum", "sums_for"),
+    "keeping": ("cells_keep", "beside_led", "keeping_book", "plain_cells", "cells_sent"),
+    "keepsplits": ("keeping_split", "plain_number"),
 }

@@ -26,7 +26,7 @@ BARRED_WORDS = (
 )
 STATEMENTS = (
     ast.Assign, ast.AugAssign, ast.If, ast.While, ast.For, ast.Return, ast.Break, ast.Continue, ast.Pass, ast.Raise,
-    ast.Assert, ast.Delete, ast.Expr, ast.FunctionDef, ast.ClassDef, ast.ImportFrom,
+    ast.Assert, ast.Delete, ast.Expr, ast.FunctionDef, ast.ClassDef, ast.ImportFrom, ast.Try,
 )
 DUNDERS = ("__init__", "__eq__")
 KEYWORDS = {"sorted": {"key", "reverse"}, "min": {"key", "default"}, "max": {"key", "default"},
@@ -105,6 +105,32 @@ class Language(unittest.TestCase):
                 self.assertIsInstance(node, (ast.Expr, ast.ImportFrom, ast.FunctionDef, ast.ClassDef, ast.Assign))
                 if isinstance(node, ast.Assign):
                     ast.literal_eval(node.value)
+
+    def test_own_errors_alone_are_caught(self):
+        own = {node.name for node in ast.parse(text_of("errors.py")).body if isinstance(node, ast.ClassDef)}
+        for name, tree in parsed():
+            for node in ast.walk(tree):
+                if isinstance(node, ast.Try):
+                    self.assertEqual(node.finalbody + node.orelse, [], (name, node.lineno))
+                    for handler in node.handlers:
+                        self.assertIsInstance(handler.type, ast.Name, (name, node.lineno))
+                        self.assertIn(handler.type.id, own, (name, node.lineno))
+                        self.assertIsNone(handler.name, (name, node.lineno))
+                if isinstance(node, ast.Raise):
+                    self.assertIsInstance(node.exc, ast.Call, (name, node.lineno))
+                    self.assertIn(node.exc.func.id, own, (name, node.lineno))
+
+    def test_no_name_is_a_method_and_an_attribute(self):
+        methods, attributes = set(), set()
+        for name, tree in parsed():
+            for node in ast.walk(tree):
+                if isinstance(node, ast.ClassDef):
+                    methods |= {part.name for part in node.body if isinstance(part, ast.FunctionDef)}
+                if isinstance(node, ast.Attribute) and isinstance(node.ctx, ast.Store):
+                    attributes.add(node.attr)
+        self.assertEqual(methods & attributes, set())
+        taken = set(dir(str)) | set(dir(int)) | set(dir(list)) | set(dir(dict)) | set(dir(set)) | set(dir(bytes))
+        self.assertLessEqual(methods & taken, set(DUNDERS))
 
     def test_imports(self):
         needs = {}
