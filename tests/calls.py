@@ -1,10 +1,11 @@
 """A right call of each function, with its parameters by name in their sequence, and what goes wrong with them."""
 
 from ruleshadows import (
-    bars, bases, books, curved, cuts, families, follows, formfamilies, forms, growths, keeping, keepsplits, ladders,
-    lattices, leasts, longs, losses, lowered, lowerings, maps, moved, orders, placerooms, places, products, raised,
-    relations, rests, rising, rooms, series, settled, shadows, shares, sides, sums, sweeps, telling, trials, twists,
-    undoing, upto, weblots, webs, wholesums, wordrooms, words)
+    bars, bases, books, bothsides, classes, curved, cuts, deedtexts, desk, families, follows, formfamilies, forms,
+    growths, journals, keeping, keepsplits, ladders, lattices, leasts, live, longs, losses, lowered, lowerings, maps,
+    minors, mirrors, moved, orders, placerooms, places, products, raised, relations, rests, rising, rooms, series,
+    settled, shadows, shares, sides, sums, sweeps, telling, texts, trials, twists, twos, undoing, upto, weblots, webs,
+    wholesums, wordrooms, words)
 from samples import chance_book
 
 BOOK = books.exchange_book(3, 2)
@@ -225,12 +226,71 @@ FIFTH = [
     made(keepsplits.plain_number, book=BENT, many=1, row=[1, 9, 0, 2]),
 ]
 
-CALLS = FIRST + SECOND + THIRD + FOURTH + FIFTH
+ONE_RULE = books.Rules(5, 2, [[0, 1, 3, 0]])
+START = ("rules", 5, 2, [[1, 7, 0, -1], [0, 0, 1, 3]])
+LIVE = live.LiveBook(START)
+LIVE.do(("put", [0, 1, 2, 9]))
+LIVE.watch_sum("a", 1, [1, 7])
+LIVE.mark("m")
+
+SIXTH = [
+    made(minors.rest_minors, one=BENT, other=MINUS, many=2),
+    made(minors.common_minors, one=BENT, other=MINUS, many=2),
+    made(minors.determinant, book=LOW.book, many=2),
+    made(bothsides.both_book, book=BENT),
+    made(bothsides.two_determinants, book=ONE_RULE),
+    made(bothsides.passing_table, book=ONE_RULE),
+    made(twos.rule_kind, book=ONE_RULE),
+    made(twos.rule_table, one=ONE_RULE, other=books.book_led(ONE_RULE, TABLE)),
+    made(twos.kinds_of, prime=5),
+    made(classes.least_led, book=BENT),
+    made(classes.led_many, book=BENT),
+    made(classes.two_classes, prime=3, many=2),
+    made(live.started, start=START),
+    made(live.is_deed, thing=("led", TABLE)),
+    made(live.LiveBook, start=START),
+    made(mirrors.mirrored_start, start=START),
+    made(mirrors.mirrored_deed, prime=5, deed=("join", START)),
+    made(mirrors.mirrored, live=LIVE),
+    made(texts.book_text, book=BENT),
+    made(texts.book_of_text, text=texts.book_text(BENT)),
+    made(deedtexts.start_text, start=START),
+    made(deedtexts.start_of_text, text="weighed 5 0 1 / 2 0"),
+    made(deedtexts.deed_text, deed=("led", TABLE)),
+    made(deedtexts.deed_of_text, text="put 0 7 2 1"),
+    made(journals.journal_text, live=LIVE),
+    made(journals.led_live, text=journals.journal_text(LIVE)),
+    made(desk.Desk, start=START),
+]
+
+CALLS = FIRST + SECOND + THIRD + FOURTH + FIFTH + SIXTH
+
+# The methods of the live rule book and of the desk, with right calls.
+METHODS = [
+    ("LiveBook", "do", {"deed": ("put", [0, 0, 1, 9])}),
+    ("LiveBook", "deeds", {}),
+    ("LiveBook", "undo", {}),
+    ("LiveBook", "redo", {}),
+    ("LiveBook", "watch_sum", {"name": "b", "length": 1, "row": [2, -1]}),
+    ("LiveBook", "watch_tell", {"name": "b", "length": 1, "row": [2, -1]}),
+    ("LiveBook", "unwatch", {"name": "a"}),
+    ("LiveBook", "watched", {}),
+    ("LiveBook", "values_told", {}),
+    ("LiveBook", "rests_told", {}),
+    ("LiveBook", "told", {}),
+    ("LiveBook", "mark", {"name": "n"}),
+    ("LiveBook", "marks", {}),
+    ("LiveBook", "marked", {"name": "m"}),
+    ("LiveBook", "carried", {"name": "m"}),
+    ("Desk", "say", {"line": "counts"}),
+]
 
 # Parameters that hold tuples that may not be lists.
 TUPLES = (("spot_of", "word"), ("word_book", "some"), ("is_bar", "thing"), ("overlap_row", "word"),
           ("is_settled", "word"), ("replaced", "word"), ("kept_letters", "places"), ("left_out", "places"),
-          ("long_place", "word"))
+          ("long_place", "word"), ("started", "start"), ("is_deed", "thing"), ("LiveBook", "start"),
+          ("mirrored_start", "start"), ("mirrored_deed", "deed"), ("start_text", "start"), ("deed_text", "deed"),
+          ("Desk", "start"))
 ROW_ERRORS = {"table": ("BadTable", None), "weights": ("BadTable", None), "places": ("BadNumber", "place"),
               "order": ("BadOrder", None), "lines": ("BadWeb", None), "nothings": ("BadWeb", None),
               "form": ("BadTable", None), "square": ("BadTable", None), "cells": ("BadCells", None)}
@@ -252,7 +312,9 @@ def row_error_of(function, name):
 
 # Functions with a parameter that takes any value, to be judged.
 ANY = (("is_fitting", "thing"), ("is_bar", "thing"), ("is_order", "order"), ("is_word_basis", "some"),
-       ("keeps", "thing"), ("is_map", "thing"), ("cells_keep", "cells"))
+       ("keeps", "thing"), ("is_map", "thing"), ("cells_keep", "cells"), ("is_deed", "thing"))
+# Parameters that are tuples with words in them, texts or live rule books: what is wrong with them has tests of its own.
+OTHERS = ("start", "deed", "text", "live")
 # Where the document asks for another sequence than from left to right.
 LATER = (("rest_product", "one"), ("long_product", "one"))
 
@@ -306,4 +368,14 @@ INTERFACE = {
     "wholesums": ("whole_sum", "sums_for"),
     "keeping": ("cells_keep", "beside_led", "keeping_book", "plain_cells", "cells_sent"),
     "keepsplits": ("keeping_split", "plain_number"),
+    "minors": ("rest_minors", "common_minors", "determinant"),
+    "bothsides": ("both_book", "two_determinants", "passing_table"),
+    "twos": ("rule_kind", "rule_table", "kinds_of"),
+    "classes": ("least_led", "led_many", "two_classes"),
+    "live": ("started", "is_deed", "LiveBook"),
+    "mirrors": ("mirrored_start", "mirrored_deed", "mirrored"),
+    "texts": ("book_text", "book_of_text"),
+    "deedtexts": ("start_text", "start_of_text", "deed_text", "deed_of_text"),
+    "journals": ("journal_text", "led_live"),
+    "desk": ("Desk",),
 }

@@ -65,8 +65,8 @@ def many_books():
 
 def some_sums():
     """Tuples of a prime, letters, a length and a row: full and round, full alone, and neither."""
-    found = [bent_sum(2), bent_sum(3), (7, 2, 2, signed_sum(7, 2)), (2, 2, 2, signed_sum(2, 2)), (3, 3, 3, signed_sum(3, 3)),
-             (5, 4, 4, signed_sum(5, 4))]
+    found = [bent_sum(2), bent_sum(3), (7, 2, 2, signed_sum(7, 2)), (2, 2, 2, signed_sum(2, 2)),
+             (3, 3, 3, signed_sum(3, 3)), (5, 4, 4, signed_sum(5, 4))]
     for prime, one, other, third in RINGS:
         found.append((prime, 3, 3, ring_sum(prime, one, other, third)))
     for prime, letters, length, seed in ((2, 2, 3, 1), (3, 2, 2, 2), (3, 2, 3, 3), (5, 2, 4, 4), (2, 3, 2, 5),

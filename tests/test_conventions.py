@@ -2,17 +2,22 @@
 
 import copy
 import inspect
+import os
+import re
 import unittest
 
 import calls
 from ruleshadows import errors
 from ruleshadows.books import Rules
+from ruleshadows.desk import Desk
+from ruleshadows.live import LiveBook
 from ruleshadows.lowered import Lowered
+from ruleshadows.texts import book_text
 
 
 def shape(value):
-    """A value with its kinds, so that a list is no tuple and True no number; a rule book by all it holds."""
-    if isinstance(value, (Rules, Lowered)):
+    """A value with its kinds, so that a list is no tuple and True no number; the package's objects by all they hold."""
+    if isinstance(value, (Rules, Lowered, LiveBook, Desk)):
         return (value.__class__.__name__, [(name, shape(kept)) for name, kept in sorted(vars(value).items())])
     if isinstance(value, (list, tuple)):
         return (value.__class__.__name__, [shape(part) for part in value])
@@ -65,6 +70,15 @@ class Conventions(unittest.TestCase):
             for name in names:
                 self.assertIn(name, called)
 
+    def test_each_file_and_name_of_the_document(self):
+        path = os.path.join(os.path.dirname(os.path.abspath(__file__)), "..", "..", "shared", "DOC.md")
+        if not os.path.exists(path):
+            self.skipTest("the document is not at hand")
+        with open(path, encoding="utf-8") as file:
+            lines = re.findall(r"^- ruleshadows/(\w+)\.py: (.*)$", file.read(), re.MULTILINE)
+        listed = {name: tuple(behind.split(", ")) for name, behind in lines if name != "errors"}
+        self.assertEqual(listed, calls.INTERFACE)
+
     def test_defined_in_their_files(self):
         for file, names in calls.INTERFACE.items():
             for name in names:
@@ -101,7 +115,7 @@ class Conventions(unittest.TestCase):
     def test_true_and_false_are_no_numbers(self):
         for function, given in calls.CALLS:
             for name, value in given.items():
-                if (function.__name__, name) in calls.ANY:
+                if (function.__name__, name) in calls.ANY or name in calls.OTHERS:
                     continue
                 if isinstance(value, int):
                     for wrong in (True, False):
@@ -141,7 +155,7 @@ class Conventions(unittest.TestCase):
 
     def test_wrong_kinds_are_told_from_left_to_right(self):
         for function, given in calls.CALLS:
-            names = [name for name in given if (function.__name__, name) not in calls.ANY]
+            names = [name for name in given if (function.__name__, name) not in calls.ANY and name not in calls.OTHERS]
             for at, name in enumerate(names):
                 if isinstance(given[name], (Rules, Lowered)):
                     continue
@@ -152,6 +166,52 @@ class Conventions(unittest.TestCase):
                 if (function.__name__, name) in calls.LATER:
                     continue
                 self.refused(told, function, wrongs)
+
+    def lived(self, name):
+        """A live rule book or a desk that some deeds have been done to, one of them taken back."""
+        made = {"LiveBook": LiveBook, "Desk": Desk}[name](calls.START)
+        live = made if name == "LiveBook" else made.live
+        live.mark("m")
+        live.watch_sum("a", 1, [1, 7])
+        live.watch_tell("c", 1, [1, 2])
+        for deed in (("back",), ("put", [0, 1, 0, 0]), ("shadow",)):
+            live.do(deed)
+        live.undo()
+        return made
+
+    def test_methods(self):
+        kinds = {"LiveBook": LiveBook, "Desk": Desk}
+        for kind, name, given in calls.METHODS:
+            self.assertIn(name, vars(kinds[kind]), name)
+            one, other, third = self.lived(kind), self.lived(kind), self.lived(kind)
+            self.assertEqual(list(inspect.signature(getattr(one, name)).parameters), list(given), name)
+            before = shape(copy.deepcopy(given))
+            found = getattr(one, name)(**given)
+            wanted = shape(found)
+            self.assertEqual(shape(getattr(other, name)(*given.values())), wanted, name)
+            as_tuples = {key: turned(value, tuple) for key, value in given.items()}
+            self.assertEqual(shape(getattr(third, name)(**as_tuples)), wanted, name)
+            self.assertEqual(shape(one), shape(other), name)
+            self.assertEqual(shape(one), shape(third), name)
+            self.assertEqual(shape(given), before, name)
+            # What is returned is new: to change it changes nothing.
+            kept = shape(one)
+            spoil(found)
+            self.assertEqual(shape(one), kept, name)
+
+    def test_attributes_of_live_books_and_desks(self):
+        made = self.lived("LiveBook")
+        self.assertEqual((made.prime, made.start, made.standing), (5, ("rules", 5, 2, ((1, 2, 0, 4), (0, 0, 1, 3))), 2))
+        self.assertEqual(book_text(made.book).split("\n")[0], "book 5 2")
+        self.assertIsInstance(self.lived("Desk").live, LiveBook)
+
+    def test_objects_are_equal_to_no_value_of_another_kind(self):
+        made = [calls.BENT, calls.LOW, calls.LIVE, Desk(calls.START)]
+        for k, one in enumerate(made):
+            self.assertEqual(one, one)
+            for other in made[:k] + made[k + 1:] + [None, True, 0, "", (), [], {}, vars(one), shape(one)]:
+                self.assertFalse(one == other)
+                self.assertTrue(one != other)
 
 
 if __name__ == "__main__":

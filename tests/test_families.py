@@ -140,8 +140,8 @@ class Families(Asks, unittest.TestCase):
                       [0] * 9, "abc", {0: 0, 1: 1, 2: 2}):
             self.refuses("BadRow", bracket_lowered, 3, 3, wrong)
         self.refuses("BadRow", bracket_lowered, 3, 1, [[0]])
-        for wrong in (None, 0, [], [[]], [[1, 0]], [[1, 0], [0]], [[1, 0], [0, True]], [1, 0, 0, 1], "ab", [[0] * 10] * 10,
-                      [[1, 0, 0], [0, 1, 0]]):
+        for wrong in (None, 0, [], [[]], [[1, 0]], [[1, 0], [0]], [[1, 0], [0, True]], [1, 0, 0, 1], "ab",
+                      [[0] * 10] * 10, [[1, 0, 0], [0, 1, 0]]):
             self.refuses("BadTable", form_lowered, 3, wrong)
             self.refuses("BadTable", twist_lowered, 3, wrong)
 

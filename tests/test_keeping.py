@@ -40,8 +40,10 @@ class Keeping(Asks, unittest.TestCase):
     def test_keep_all_cells_there_are(self):
         for one, other, third, length in (
                 (shut_book(3, 1), free_book(3, 1), told_book(3, 2, [{(0, 0): 1, (0, 1): 1}]), 1),
-                (shut_book(2, 1), free_book(2, 1), chance_book(2, 2, 1, 3), 2), (exchange_book(2, 2), free_book(2, 1), bent_book(2), 1),
-                (shut_book(2, 1), exchange_book(2, 2), bent_book(2), 1), (bent_book(2), bent_book(2), free_book(2, 1), 1),
+                (shut_book(2, 1), free_book(2, 1), chance_book(2, 2, 1, 3), 2),
+                (exchange_book(2, 2), free_book(2, 1), bent_book(2), 1),
+                (shut_book(2, 1), exchange_book(2, 2), bent_book(2), 1),
+                (bent_book(2), bent_book(2), free_book(2, 1), 1),
                 (bent_book(2), minus_book(2, 2), shut_book(2, 1), 0)):
             some = {True: 0, False: 0}
             for cells in all_cells(one, other, third, length):
@@ -198,7 +200,8 @@ class Keeping(Asks, unittest.TestCase):
         one, other = chance_book(97, 9, 40, 1), chance_book(97, 9, 41, 2)
         third = exchange_book(97, 5)
         self.assertIs(cells_keep(one, other, third, 2, chance_cells(one, other, third, 2, 5)), False)
-        self.assertIs(cells_keep(one, other, shut_book(97, 9), 1, chance_cells(one, other, shut_book(97, 9), 1, 5)), True)
+        self.assertIs(cells_keep(one, other, shut_book(97, 9), 1, chance_cells(one, other, shut_book(97, 9), 1, 5)),
+                      True)
         nothing = [[[0] * 25] * 9] * 9
         self.assertEqual(beside_led(one, other, third, 2, nothing, 1, [1] * 9), [(0,) * 25] * 9)
         one, other, third = free_book(2, 9), shut_book(2, 9), exchange_book(2, 2)

@@ -18,11 +18,16 @@ def threes():
     """Three books over one prime, any two of which make few pairs of letters."""
     return [
         (free_book(3, 1), free_book(3, 1), free_book(3, 1)), (shut_book(2, 1), free_book(2, 1), shut_book(2, 1)),
-        (shut_book(5, 1), shut_book(5, 1), free_book(5, 1)), (exchange_book(3, 2), exchange_book(3, 2), exchange_book(3, 2)),
-        (exchange_book(5, 2), minus_book(5, 2), told_book(5, 2, [{(0, 0): 1}])), (bent_book(2), bent_book(2), bent_book(2)),
-        (chance_book(3, 2, 2, 1), free_book(3, 1), chance_book(3, 2, 1, 2)), (shut_book(2, 1), bent_book(2), shut_book(2, 2)),
-        (chance_book(2, 2, 2, 3), chance_book(2, 2, 1, 4), chance_book(2, 2, 2, 5)), (bent_book(3), shut_book(3, 1), bent_book(3)),
-        (chance_book(2, 3, 4, 6), shut_book(2, 1), chance_book(2, 2, 2, 7)), (shut_book(3, 2), exchange_book(3, 2), shut_book(3, 1)),
+        (shut_book(5, 1), shut_book(5, 1), free_book(5, 1)),
+        (exchange_book(3, 2), exchange_book(3, 2), exchange_book(3, 2)),
+        (exchange_book(5, 2), minus_book(5, 2), told_book(5, 2, [{(0, 0): 1}])),
+        (bent_book(2), bent_book(2), bent_book(2)),
+        (chance_book(3, 2, 2, 1), free_book(3, 1), chance_book(3, 2, 1, 2)),
+        (shut_book(2, 1), bent_book(2), shut_book(2, 2)),
+        (chance_book(2, 2, 2, 3), chance_book(2, 2, 1, 4), chance_book(2, 2, 2, 5)),
+        (bent_book(3), shut_book(3, 1), bent_book(3)),
+        (chance_book(2, 3, 4, 6), shut_book(2, 1), chance_book(2, 2, 2, 7)),
+        (shut_book(3, 2), exchange_book(3, 2), shut_book(3, 1)),
     ]
 
 
@@ -112,7 +117,8 @@ class KeepSplits(Asks, unittest.TestCase):
 
     def test_fact_the_plain_number_of_nothing(self):
         some = 0
-        for book in (shut_book(5, 1), exchange_book(3, 2), bent_book(7), chance_book(2, 3, 4, 1), chance_book(3, 2, 2, 5)):
+        for book in (shut_book(5, 1), exchange_book(3, 2), bent_book(7), chance_book(2, 3, 4, 1),
+                     chance_book(3, 2, 2, 5)):
             keeping = keeping_book(book, book)
             for many in range(4):
                 if keeping.letters ** many < 300:
