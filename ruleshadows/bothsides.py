@@ -3,7 +3,6 @@
 from ruleshadows.books import Rules
 from ruleshadows.errors import BadBook
 from ruleshadows.keeping import keeping_book
-from ruleshadows.keepsplits import check_squared
 from ruleshadows.rests import rest
 from ruleshadows.solving import dense, put
 from ruleshadows.tables import joined, table_undone
@@ -12,7 +11,6 @@ from ruleshadows.twos import check_two, rule_square, square_worth
 
 def both_book(book):
     """The rules of the keeping book of the book and itself, and these with each pair of letters turned over."""
-    check_squared(book)
     keeping = keeping_book(book, book)
     n, pairs = book.letters, book.letters * book.letters
     turned = [c * n + a for a in range(n) for c in range(n)]

@@ -1,13 +1,9 @@
 """Words of the letters of a keeping book split through a book in the middle, and what leaves them as they are."""
 
-from ruleshadows.books import check_book
 from ruleshadows.checks import check_from, check_row, words_many
-from ruleshadows.errors import BadNumber
 from ruleshadows.keeping import check_keeping, check_three, keeping_book
 from ruleshadows.reststock import RestStock
 from ruleshadows.solving import put, sparse
-
-MOST_SQUARED = 3
 
 
 def keeping_split(one, middle, other, many, row):
@@ -60,16 +56,9 @@ def _put_pairs(prime, total, times, one, other):
             put(prime, total, (at, place), times * number * more)
 
 
-def check_squared(book):
-    """Raises BadBook(None), BadNumber("letters") for more than 3 letters."""
-    check_book(book)
-    if book.letters > MOST_SQUARED:
-        raise BadNumber("letters")
-
-
 def plain_number(book, many, row):
     """The sum of the numbers of a row of keeping_book(book, book) at the words of letters (a, a) alone."""
-    check_squared(book)
+    check_keeping(book, book)
     check_from(many, 0, "many")
     pairs = book.letters * book.letters
     check_row(row, words_many(pairs, many))

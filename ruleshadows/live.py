@@ -90,7 +90,6 @@ def _book_after(book, deed):
     if word == "led":
         return book_led(book, deed[1])
     if word in ROW_DEEDS:
-        check_row(deed[1], book.letters * book.letters)
         alone = Rules(book.prime, book.letters, [deed[1]])
         return joined_rules(book, alone) if word == "put" else common_rules(book, shadow(alone))
     other = started(deed[1])

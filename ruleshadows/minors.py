@@ -4,7 +4,6 @@ from ruleshadows.cellstock import CellStock
 from ruleshadows.checks import check_from, words_many
 from ruleshadows.commonstock import CommonStock
 from ruleshadows.keeping import check_keeping, keeping_book, plain_cells
-from ruleshadows.keepsplits import check_squared
 from ruleshadows.reststock import RestStock
 from ruleshadows.solving import dense, mixed
 
@@ -55,7 +54,6 @@ def _pair_spot(n, m, length, spot, head):
 
 def determinant(book, many):
     """The only one of the common minors, if the common room has just one row; None."""
-    check_squared(book)
     _check_minors(book, book, many)
     if CommonStock(book).many(many) != 1:
         return None

@@ -1,7 +1,7 @@
 """Counts of a book told by the few counts of its shadow, onwards and back."""
 
 from ruleshadows.books import check_book
-from ruleshadows.checks import check_between, check_from, words_many
+from ruleshadows.checks import check_between, check_from
 from ruleshadows.errors import BadBook
 from ruleshadows.forms import top_length
 from ruleshadows.polys import unroll
@@ -16,7 +16,6 @@ def _signed_counts(book, most, many, part):
     check_book(book)
     check_from(most, 0, "most")
     check_between(many, 0, MOST_TOLD, part)
-    words_many(book.letters, most)
     dark = shadow(book)
     top = top_length(dark, most)
     if top is None:

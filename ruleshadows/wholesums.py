@@ -12,7 +12,6 @@ from ruleshadows.sums import rules_of_sum
 
 def whole_sum(book, most):
     """The top of the shadow and the only row that the rules at all places have in common in this length."""
-    check_book(book)
     top = paired_top(shadow(book), most)
     if top is None or top < 2:
         raise BadBook("paired")

@@ -147,6 +147,15 @@ class Rising(Asks, unittest.TestCase):
             self.refuses(MANY, function, free_book(2, 2), 9, 0)
             self.refuses(MANY, function, shut_book(2, 2), 0, 9)
             self.refuses(MANY, function, free_book(2, 9), 3, 0)
+            # Too long, though there are no pairs at all.
+            self.refuses(MANY, function, shut_book(2, 2), 9, 0)
+            self.refuses(MANY, function, free_book(2, 2), 0, 9)
+            self.assertFalse(function(shut_book(2, 2), 8, 0))
+            self.assertFalse(function(free_book(2, 2), 0, 8))
+            # More than 1000 pairs of two letters each, none of three.
+            wide = chance_book(97, 9, 40, 1)
+            self.assertEqual([count(wide, 2), count(shadow(wide), 2), count(shadow(wide), 3)], [41, 40, 0])
+            self.refuses(MANY, function, wide, 2, 2)
             # Four letters, each of which two others follow: 16 words of length 3, 32 of 4, in both books.
             ring = told_book(2, 4, [{(a, (a + k) % 4): 1} for a in range(4) for k in (0, 1)])
             self.assertEqual((count(ring, 4), count(shadow(ring), 4)), (32, 32))
